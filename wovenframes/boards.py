@@ -1,0 +1,118 @@
+"""Boards: tables of cells, and the steps between their threads."""
+
+from wovenframes.errors import BadBoard, BadCells, BadColumn, BadRow, BadSign, BadThread
+from wovenframes.values import is_whole
+
+SIGNS = (".", "<", ">", "x")
+OTHER_WAY = {".": ".", "<": ">", ">": "<", "x": "x"}
+LONGEST_SIDE = 5
+
+
+class Board:
+    """A table of cells. Its threads are its rows, from above, then its columns, from the left."""
+
+    def __init__(self, cells):
+        if not is_cells(cells):
+            raise BadCells()
+        self._cells = cells
+        self._threads = tuple(range(len(cells) + len(cells[0])))
+
+    @property
+    def cells(self):
+        return self._cells
+
+    @property
+    def rows(self):
+        return len(self._cells)
+
+    @property
+    def columns(self):
+        return len(self._cells[0])
+
+    def __len__(self):
+        return len(self._threads)
+
+    def __eq__(self, other):
+        return isinstance(other, Board) and self._cells == other._cells
+
+
+def is_cells(value):
+    """Whether a value is the cells of some board."""
+    if not isinstance(value, tuple) or not 1 <= len(value) <= LONGEST_SIDE:
+        return False
+    if not all([isinstance(signs, str) for signs in value]):
+        return False
+    if not 1 <= len(value[0]) <= LONGEST_SIDE:
+        return False
+    return all([len(signs) == len(value[0]) and is_signs(signs) for signs in value])
+
+
+def is_signs(text):
+    """Whether each character of a text is a sign."""
+    return all([sign in SIGNS for sign in text])
+
+
+def check_board(value):
+    """Raise BadBoard if a value is no board."""
+    if not isinstance(value, Board):
+        raise BadBoard()
+
+
+def is_thread(board, value):
+    """Whether a value is a thread of the board."""
+    return is_whole(value, 0, len(board) - 1)
+
+
+def check_thread(board, value):
+    """Raise BadThread if a value is no thread of the board."""
+    if not is_thread(board, value):
+        raise BadThread()
+
+
+def check_cell(board, row, column):
+    """Raise BadRow or BadColumn if a row or a column is none of the board."""
+    if not is_whole(row, 0, board.rows - 1):
+        raise BadRow()
+    if not is_whole(column, 0, board.columns - 1):
+        raise BadColumn()
+
+
+def steps(board):
+    """The ascending list of all steps, pairs (one, other) of threads."""
+    check_board(board)
+    found = []
+    for row, signs in enumerate(board.cells):
+        for column, sign in enumerate(signs):
+            across = board.rows + column
+            if sign in (">", "x"):
+                found.append((row, across))
+            if sign in ("<", "x"):
+                found.append((across, row))
+    return sorted(found)
+
+
+def flipped(board):
+    """The board whose rows are the columns, with the same steps between them."""
+    check_board(board)
+    # A step from a row to a column becomes one from a column to a row: its sign is another one.
+    return Board(tuple([
+        "".join([OTHER_WAY[signs[column]] for signs in board.cells])
+        for column in range(board.columns)
+    ]))
+
+
+def turned(board):
+    """The board with each step the other way."""
+    check_board(board)
+    return Board(tuple(["".join([OTHER_WAY[sign] for sign in signs]) for signs in board.cells]))
+
+
+def with_cell(board, row, column, sign):
+    """The board with another sign in one cell."""
+    check_board(board)
+    check_cell(board, row, column)
+    if sign not in SIGNS:
+        raise BadSign()
+    lines = list(board.cells)
+    lines[row] = lines[row][:column] + sign + lines[row][column + 1:]
+    return Board(tuple(lines))
