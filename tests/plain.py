@@ -46,6 +46,11 @@ def larger_boards():
                 yield mixed_board(rows, columns, seed, signs)
 
 
+def five_by_five():
+    """Thrown boards of five rows and five columns with many steps."""
+    return [mixed_board(5, 5, seed, signs) for seed, signs in enumerate(("<>", "<>x", "<>xx", ".<>x", "<>x", "<>"), 40)]
+
+
 def plain_steps(board):
     """The steps, by asking each pair of threads for its cell."""
     found = []

@@ -49,6 +49,64 @@ READINGS = '''
 raises NotClosed()
 '''
 
+CARRYING = '''
+>>> from wovenframes.boards import Board
+>>> from wovenframes.carrying import barring_lot, is_carried, least_pull, pulls, shows_pulls
+>>> board = Board((">x", ".<"))
+>>> [is_carried(board, (2, -1, -1, 0)), pulls(board, (2, -1, -1, 0)), least_pull(board, (2, -1, -1, 0)), barring_lot(board, (2, -1, -1, 0))]
+[True, (1, 1, 0, 1), 3, None]
+>>> [is_carried(board, (-1, 1, 0, 0)), pulls(board, (-1, 1, 0, 0)), barring_lot(board, (-1, 1, 0, 0)), shows_pulls(board, (2, -1, -1, 0), (1, 2, 1, 1))]
+[False, None, (0, 3), False]
+'''
+
+STRENGTHS = '''
+>>> from wovenframes.boards import Board
+>>> from wovenframes.strengths import first_to_break, greatest_factor, holding, is_held, shows_held, strained_lot, tight_lots
+>>> board = Board((">x", ".<"))
+>>> [is_held(board, (1, 2, 0, 1), (2, -1, -1, 0)), holding(board, (1, 2, 0, 1), (2, -1, -1, 0)), strained_lot(board, (1, 0, 0, 1), (2, -1, -1, 0))]
+[True, (1, 1, 0, 1), (0,)]
+>>> [greatest_factor(board, (1, 2, 0, 1), (2, -1, -1, 0)), tight_lots(board, (1, 2, 0, 1), (2, -1, -1, 0)), first_to_break(board, (1, 2, 0, 1), (2, -1, -1, 0))]
+[(1, 1), [(0, 3), (0, 1, 3), (0, 2, 3)], [(0, 2), (3, 1)]]
+>>> [greatest_factor(board, (5, 3, 0, 7), (2, 0, -2, 0)), shows_held(board, (1, 2, 1, 1), (2, -1, -1, 0), (1, 2, 1, 1))]
+[(5, 2), True]
+'''
+
+PRICES = '''
+>>> from wovenframes.boards import Board
+>>> from wovenframes.prices import cheapest, greatest_pull, least_price, narrowest, price_paper, shows_price
+>>> board = Board((">x", ".<"))
+>>> [least_price(board, (1, 2, 0, 1), (3, 0, 0, 2), (2, -1, -1, 0)), cheapest(board, (1, 2, 0, 1), (3, 0, 0, 2), (2, -1, -1, 0)), least_price(board, (0, 0, 0, 0), (1, 1, 1, 1), (1, 0, -1, 0))]
+[5, (1, 1, 0, 1), None]
+>>> [shows_price(board, (1, 2, 1, 1), (3, 0, 0, 2), (2, -1, -1, 0), ((1, 1, 0, 1), (0, 2, 3, 0))), shows_price(board, (1, 2, 1, 1), (3, 0, 1, 2), (2, -1, -1, 0), ((1, 2, 1, 1), (0, 2, 3, 0)))]
+[True, False]
+>>> [greatest_pull(board, (5, 3, 0, 7), 0, 1), narrowest(board, (5, 3, 0, 7), 0, 1), greatest_pull(board, (5, 3, 0, 7), 1, 0), narrowest(board, (5, 3, 0, 7), 1, 0)]
+[3, (0, 2), 0, (1,)]
+'''
+
+LOADCUTS = '''
+>>> from wovenframes.boards import Board
+>>> from wovenframes.loadcuts import all_cuts, fewest_cuts, fewest_fills, first_fill, spared_cells
+>>> board = Board((">x", ".<"))
+>>> [fewest_cuts(board, (2, -1, -1, 0)), all_cuts(board, (2, -1, -1, 0)), fewest_cuts(board, (-1, 1, 0, 0))]
+[1, [((0, 0),), ((0, 1),), ((1, 1),)], 0]
+>>> [fewest_fills(board, (-1, 1, 0, 0)), first_fill(board, (-1, 1, 0, 0)), spared_cells(board, (1, 0, -1, 0))]
+[1, ((1, 1),), [(0, 1), (1, 1)]]
+'''
+
+MOTIONS = '''
+>>> from wovenframes.boards import Board
+>>> from wovenframes.motions import as_lots, count_motions, motions, of_lots
+>>> board = Board((">x", ".<"))
+>>> [motions(board, 1), count_motions(board, 2), count_motions(board, 99)]
+[[(0, 0, 0, 0), (1, 0, 0, 1), (1, 0, 1, 1), (1, 1, 0, 1), (1, 1, 1, 1)], 14, 338350]
+
+>>> from wovenframes.boards import Board
+>>> from wovenframes.motions import as_lots, of_lots
+>>> board = Board((">x", ".<"))
+>>> [as_lots(board, (5, 2, -1, 5)), of_lots(board, -1, [((0, 3), 3), ((0, 1, 3), 3)]), as_lots(board, (4, 4, 4, 4))]
+[(-1, (((0, 1, 3), 3), ((0, 3), 3))), (5, 2, -1, 5), (4, ())]
+'''
+
 
 def is_statement(source):
     """Whether an example's line is to be run, and shows nothing."""
@@ -89,6 +147,21 @@ class Examples(unittest.TestCase):
 
     def test_readings(self):
         self.check(READINGS)
+
+    def test_carrying(self):
+        self.check(CARRYING)
+
+    def test_strengths(self):
+        self.check(STRENGTHS)
+
+    def test_prices(self):
+        self.check(PRICES)
+
+    def test_loadcuts(self):
+        self.check(LOADCUTS)
+
+    def test_motions(self):
+        self.check(MOTIONS)
 
 
 if __name__ == "__main__":

@@ -1,28 +1,58 @@
 """Point 1: no argument is modified, returned lists are new, equal calls give equal results."""
 
 import unittest
+from copy import deepcopy
 
-from plain import larger_boards, tiny_boards
+from plain import five_by_five, larger_boards, tiny_boards
+from plainloads import mixed_load, mixed_strengths
 
-from wovenframes import boards, chains, lots, readings
+from wovenframes import boards, carrying, chains, loadcuts, lots, motions, prices, readings, strengths
 from wovenframes.boards import Board
 from wovenframes.errors import WovenError
 
+# Each call with its arguments behind the board: a name stands for what `told_for` gives it.
 LISTS = (
     (boards.steps, ()), (chains.reached, (0,)), (chains.reaching, (0,)), (lots.closed_lots, ()), (lots.parts, ()),
-    (lots.layers, ()),
+    (lots.layers, ()), (strengths.tight_lots, ("strengths", "load")),
+    (strengths.first_to_break, ("strengths", "load")), (loadcuts.all_cuts, ("load",)),
+    (loadcuts.spared_cells, ("load",)), (motions.motions, (1,)),
 )
 VALUES = (
     (boards.flipped, ()), (boards.turned, ()), (boards.with_cell, (0, 0, "x")), (chains.leads, (0, 1)),
     (chains.chain, (0, 1)), (lots.is_closed, ((0,),)), (lots.least_closed, ((0,),)), (lots.holds, ()),
     (readings.lifting, ()), (readings.as_motion, ((),)), (readings.ring_row, ()), (readings.verdict, ()),
+    (carrying.is_carried, ("load",)), (carrying.pulls, ("load",)), (carrying.least_pull, ("load",)),
+    (carrying.barring_lot, ("load",)), (strengths.is_held, ("strengths", "load")),
+    (strengths.holding, ("strengths", "load")), (strengths.strained_lot, ("strengths", "load")),
+    (strengths.greatest_factor, ("strengths", "load")), (prices.least_price, ("strengths", "prices", "load")),
+    (prices.cheapest, ("strengths", "prices", "load")), (prices.price_paper, ("strengths", "prices", "load")),
+    (prices.greatest_pull, ("strengths", 0, 1)), (prices.narrowest, ("strengths", 0, 1)),
+    (loadcuts.fewest_cuts, ("load",)), (loadcuts.fewest_fills, ("light",)), (loadcuts.first_fill, ("light",)),
+    (motions.count_motions, (9,)), (motions.as_lots, ("motion",)), (motions.of_lots, (1, "heights")),
 )
+
+
+def told_for(board, rest):
+    """The arguments behind the board, with what stands for their names."""
+    named = {
+        "load": mixed_load(board, 3, 3),
+        "light": (1, -1) + (0,) * (len(board) - 2),
+        "strengths": mixed_strengths(board, 4, 9, 5),
+        "prices": mixed_strengths(board, 5),
+        "motion": (7,) * len(board),
+        "heights": [((), 3), (tuple(range(len(board))), 4)],
+    }
+    return tuple(named.get(name, name) for name in rest)
+
+
+def calls_for(board, calls):
+    return [(call, told_for(board, rest)) for call, rest in calls]
 
 
 class Unchanged(unittest.TestCase):
     def test_a_list_changed_by_the_caller(self):
-        for board in [*list(tiny_boards())[:80], *larger_boards()]:
-            for call, rest in LISTS:
+        for board in [*list(tiny_boards())[::7], *list(larger_boards())[::3], *five_by_five()]:
+            for call, rest in calls_for(board, LISTS):
                 first = call(board, *rest)
                 self.assertIs(first.__class__, list)
                 kept = list(first)
@@ -32,35 +62,61 @@ class Unchanged(unittest.TestCase):
 
     def test_each_list_is_a_new_one(self):
         board = Board((">x", ".<"))
-        for call, rest in LISTS:
+        for call, rest in calls_for(board, LISTS):
             self.assertIsNot(call(board, *rest), call(board, *rest))
 
+    def test_what_is_no_list_cannot_be_changed(self):
+        for board in [Board((">x", ".<")), *five_by_five()]:
+            for call, rest in calls_for(board, VALUES):
+                told = call(board, *rest)
+                self.assertTrue(isinstance(told, (int, tuple, Board)) or told is None)
+                if isinstance(told, tuple):
+                    # A tuple of tuples all the way down has a place among the keys of a dict.
+                    self.assertEqual({told: 1}, {told: 1})
+
     def test_equal_calls_give_equal_results(self):
-        for board in larger_boards():
+        for board in [*list(larger_boards())[::3], *five_by_five()]:
             again = Board(tuple(board.cells))
-            for call, rest in (*LISTS, *VALUES):
-                self.assertEqual(call(board, *rest), call(again, *rest))
+            for call, rest in calls_for(board, (*LISTS, *VALUES)):
+                self.assertEqual(call(board, *rest), call(again, *deepcopy(rest)))
                 self.assertEqual(call(board, *rest), call(board, *rest))
 
-    def test_the_board_stays_as_it_is(self):
-        for board in larger_boards():
+    def test_the_arguments_stay_as_they_are(self):
+        for board in [*list(larger_boards())[1::3], *five_by_five()]:
             cells = tuple(board.cells)
-            for call, rest in (*LISTS, *VALUES):
+            for call, rest in calls_for(board, (*LISTS, *VALUES)):
+                kept = deepcopy(rest)
                 call(board, *rest)
+                self.assertEqual(rest, kept)
             self.assertEqual((board.cells, board.rows, board.columns), (cells, len(cells), len(cells[0])))
 
+    def test_heights_in_a_list_stay_as_they_are(self):
+        board, heights = Board((">x", ".<")), [((0, 1, 3), 3), ((0, 3), 3)]
+        told = motions.of_lots(board, -1, heights)
+        self.assertEqual(heights, [((0, 1, 3), 3), ((0, 3), 3)])
+        heights.clear()
+        self.assertEqual(told, (5, 2, -1, 5))
+        wrong = [((0, 3), 1), [1]]
+        with self.assertRaises(WovenError):
+            motions.of_lots(board, 0, wrong)
+        self.assertEqual(wrong, [((0, 3), 1), [1]])
+
     def test_values_that_are_only_told_of_stay_as_they_are(self):
-        board = Board(("x",))
+        board, none = Board(("x",)), (0, 0)
         for call, rest in ((chains.shows_chain, (0, 1)), (readings.is_motion, ()), (readings.shows_ring, ()),
-                           (readings.shows_verdict, ())):
-            for value, same in (([0, 1, 0], [0, 1, 0]), ({"lot": [0]}, {"lot": [0]}), (("lot", [0]), ("lot", [0]))):
+                           (readings.shows_verdict, ()), (carrying.shows_pulls, (none,)),
+                           (strengths.shows_held, (none, none)), (prices.shows_price, (none, none, none))):
+            for value, same in (([0, 1, 0], [0, 1, 0]), ({"lot": [0]}, {"lot": [0]}), (("lot", [0]), ("lot", [0])),
+                                ([0, 0], [0, 0]), (((0, 0), [0, 0]), ((0, 0), [0, 0]))):
                 self.assertIs(call(board, *rest, value), False)
                 self.assertEqual(value, same)
 
     def test_a_call_that_raises_changes_nothing(self):
         board, cells, lot = Board((">x", ".<")), [">x", ".<"], [1, 0]
         for call, rest in ((boards.with_cell, (0, 0, ["x"])), (lots.is_closed, (lot,)), (lots.least_closed, (lot,)),
-                           (readings.as_motion, ((0,),)), (readings.as_load, ((0,),)), (chains.chain, (0, 4))):
+                           (readings.as_motion, ((0,),)), (readings.as_load, ((0,),)), (chains.chain, (0, 4)),
+                           (carrying.pulls, (lot,)), (strengths.holding, (lot, lot)),
+                           (prices.cheapest, (lot, lot, lot)), (loadcuts.all_cuts, (lot,)), (motions.as_lots, (lot,)), (motions.of_lots, (0, lot))):
             with self.assertRaises(WovenError):
                 call(board, *rest)
             self.assertEqual((board.cells, lot), ((">x", ".<"), [1, 0]))

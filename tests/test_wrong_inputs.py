@@ -3,7 +3,9 @@
 import unittest
 from itertools import combinations
 
-from wovenframes import boards, chains, errors, lots, readings
+from wovenframes import (
+    boards, carrying, chains, errors, loadcuts, lots, motions, prices, readings, strengths,
+)
 from wovenframes.boards import Board
 
 BOARD = Board((">x<", ".<x"))
@@ -26,8 +28,48 @@ BAD_LOTS = (
     (5,), (0, 5), (0, 1, 2, 3, 4, 5), (10 ** 30,), (True,), (False,), (0, True), (False, 1), (None,), (0, None), ("0",),
     (0, "1"), ((0,),), ((),), ([0],), ([],), ({},), (0, [1]), BOARD, (BOARD,),
 )
+# Values that stand where a tuple of integers is asked, whichever: what is told of it is told in the next lines.
+NO_NUMBERS = (
+    None, True, False, 0, 1, -1, "", "0", "00000", "0000000", [], [0] * 5, [0] * 7, {}, {0: 0}, (), (0,), (0,) * 4,
+    (0,) * 6, (0,) * 8, (True,) * 5, (False,) * 5, (False,) * 7, (None,) * 5, (None,) * 7, ("0",) * 5, ("0",) * 7,
+    ((0,),) * 5, ((0,),) * 7, ([0],) * 5, ([],) * 7, ({},) * 5, ({},) * 7, ((0, 0, 0, 0, 0),), BOARD, (BOARD,) * 5,
+    (BOARD,) * 7,
+)
+BAD_LOADS = (
+    *NO_NUMBERS, (0,) * 7, (0, 0, 0, 0, False), (True, 0, 0, 0, -1), (1, 0, 0, 0, None), (1, 0, 0, 0, "1"),
+    (1, -1, 0, 0, ()), (1, -1, 0, [], 0), (1, 0, 0, 0, 0), (0, 0, 0, 0, -1), (20, -19, 0, 0, 0), (21, -21, 0, 0, 0),
+    (0, 0, 0, 21, -21), (21, -20, -1, 0, 0), (-21, 20, 1, 0, 0), (10 ** 30, -(10 ** 30), 0, 0, 0), [2, -1, -1, 0, 0],
+    (2, -1, -1, 0), (2, -1, -1, 0, 0, 0),
+)
+BAD_STRENGTHS = (
+    *NO_NUMBERS, (0,) * 5, (10, 0, 0, 0, 0, 0, 0), (0, 0, 0, 0, 0, 0, 10), (-1, 0, 0, 0, 0, 0, 0),
+    (0, 0, 0, 0, 0, 0, -1), (1, 2, 3, 4, 5, 6, True), (False, 2, 3, 4, 5, 6, 7), (1, 2, 3, None, 5, 6, 7),
+    (1, 2, 3, "4", 5, 6, 7), (1, 2, 3, (4,), 5, 6, 7), (1, 2, 3, [4], 5, 6, 7), (10 ** 30,) * 7, [1, 2, 3, 4, 5, 6, 7],
+    (1, 2, 3, 4, 5, 6), (1, 2, 3, 4, 5, 6, 7, 8),
+)
+BAD_MOTIONS = (
+    *NO_NUMBERS, (0,) * 7, (10 ** 6 + 1,) * 5, (-(10 ** 6) - 1,) * 5, (0, 0, 1, 0, 0), (0, 0, 0, 0, 1),
+    (0, 0, 0, 0, False), (True, 0, 0, 0, 0), (1, 0, 0, None, 0), [0, 0, 0, 0, 0],
+)
+NO_ANGLES = (
+    None, True, False, -1, 10 ** 30, -(10 ** 30), "", "0", "1", [], [0], {}, {0: 0}, (), (0,), BOARD, (BOARD,),
+)
+BAD_HEIGHTS = (
+    None, True, False, 0, 1, -1, "", "ab", {}, {0: 0}, {(): 0}, BOARD, [None], (None,), [()], ((),), ((), 1), [((),)],
+    (((), 1, 1),), [[(), 1]], [([], 1)], [((), -1)], [((), True)], [((), None)], [((), "1")], (((2,), 1),),
+    [((0, 0), 1)], [((3, 0), 1)], [((0, 3), 1)], [((), 1), None], [((), 10 ** 6 + 1)], [(1, ())], [BOARD],
+    [(BOARD, 1)],
+)
 
 BAD = {
+    "load": (BAD_LOADS, errors.BadLoad),
+    "strengths": (BAD_STRENGTHS, errors.BadStrengths),
+    "prices": (BAD_STRENGTHS, errors.BadPrices),
+    "angle": ((*NO_ANGLES, 10, 11, 99, 100), errors.BadAngle),
+    "far_angle": ((*NO_ANGLES, 100, 101), errors.BadAngle),
+    "least": ((*NO_ANGLES[:3], *NO_ANGLES[4:], 10 ** 6 + 1, -(10 ** 6) - 1), errors.BadAngle),
+    "motion": (BAD_MOTIONS, errors.BadMotion),
+    "heights": (BAD_HEIGHTS, errors.BadHeights),
     "board": (BAD_BOARDS, errors.BadBoard),
     "one": (BAD_THREADS, errors.BadThread),
     "other": (BAD_THREADS, errors.BadThread),
@@ -36,7 +78,11 @@ BAD = {
     "sign": (BAD_SIGNS, errors.BadSign),
     "lot": (BAD_LOTS, errors.BadLot),
 }
-GOOD = {"board": BOARD, "one": 0, "other": 4, "row": 1, "column": 2, "sign": ".", "lot": (0, 3), "value": None}
+GOOD = {"board": BOARD, "one": 0, "other": 4, "row": 1, "column": 2, "sign": ".", "lot": (0, 3), "value": None,
+        "load": (2, -1, -1, 0, 0), "strengths": (1, 2, 3, 4, 5, 6, 7), "prices": (0, 9, 0, 9, 0, 9, 0), "angle": 9,
+        "far_angle": 99, "least": 10 ** 6, "motion": (3, 3, -2, 3, 3), "heights": [((), 10 ** 6), ((0, 1, 3, 4), 0)]}
+# A table's name for an argument whose bounds are others here than elsewhere, and its name in the interface.
+OWN_NAMES = {"far_angle": "angle"}
 
 CALLS = (
     (boards.steps, ("board",)),
@@ -62,13 +108,40 @@ CALLS = (
     (readings.shows_ring, ("board", "value")),
     (readings.verdict, ("board",)),
     (readings.shows_verdict, ("board", "value")),
+    (carrying.is_carried, ("board", "load")),
+    (carrying.pulls, ("board", "load")),
+    (carrying.least_pull, ("board", "load")),
+    (carrying.shows_pulls, ("board", "load", "value")),
+    (carrying.barring_lot, ("board", "load")),
+    (strengths.is_held, ("board", "strengths", "load")),
+    (strengths.holding, ("board", "strengths", "load")),
+    (strengths.shows_held, ("board", "strengths", "load", "value")),
+    (strengths.strained_lot, ("board", "strengths", "load")),
+    (strengths.greatest_factor, ("board", "strengths", "load")),
+    (strengths.tight_lots, ("board", "strengths", "load")),
+    (strengths.first_to_break, ("board", "strengths", "load")),
+    (prices.least_price, ("board", "strengths", "prices", "load")),
+    (prices.cheapest, ("board", "strengths", "prices", "load")),
+    (prices.price_paper, ("board", "strengths", "prices", "load")),
+    (prices.shows_price, ("board", "strengths", "prices", "load", "value")),
+    (prices.greatest_pull, ("board", "strengths", "one", "other")),
+    (prices.narrowest, ("board", "strengths", "one", "other")),
+    (loadcuts.fewest_cuts, ("board", "load")),
+    (loadcuts.all_cuts, ("board", "load")),
+    (loadcuts.fewest_fills, ("board", "load")),
+    (loadcuts.first_fill, ("board", "load")),
+    (loadcuts.spared_cells, ("board", "load")),
+    (motions.motions, ("board", "angle")),
+    (motions.count_motions, ("board", "far_angle")),
+    (motions.as_lots, ("board", "motion")),
+    (motions.of_lots, ("board", "least", "heights")),
 )
 
 
 def outcome(call, arguments):
     """The class of the error that a call raises, or None."""
     try:
-        call(**arguments)
+        call(**{OWN_NAMES.get(name, name): value for name, value in arguments.items()})
     except errors.WovenError as error:
         return error.__class__
     return None
@@ -78,7 +151,7 @@ class WrongInputs(unittest.TestCase):
     def test_the_calls_without_a_wrong_argument(self):
         for call, names in CALLS:
             with self.subTest(call=call.__name__):
-                wrong = (errors.NotClosed, errors.NotLifting)
+                wrong = (errors.NotClosed, errors.NotLifting, errors.TooMany)
                 self.assertIn(outcome(call, {name: GOOD[name] for name in names}), (None, *wrong))
 
     def test_one_wrong_argument(self):
@@ -90,6 +163,21 @@ class WrongInputs(unittest.TestCase):
                         arguments = {other: GOOD[other] for other in names}
                         arguments[name] = value
                         self.assertIs(outcome(call, arguments), wanted)
+
+    def test_one_wrong_argument_for_boards_without_steps_and_of_all_knots(self):
+        for board in (Board((".",)), Board((".....",) * 5), Board(("x",)), Board(("xxxxx",) * 5)):
+            many, pairs = len(board), len(boards.steps(board))
+            good = {
+                **GOOD, "board": board, "one": 0, "other": 1, "row": 0, "column": 0, "lot": (), "load": (0,) * many,
+                "strengths": (1,) * pairs, "prices": (1,) * pairs, "motion": (1,) * many, "heights": [((), 1)],
+            }
+            for call, names in CALLS:
+                for name in names:
+                    for value in (None, True, "0", [0], {0: 0}, ((0,),), (None,), -2, 10 ** 30):
+                        if name in BAD and not (name == "least" and value == -2):
+                            arguments = {other: good[other] for other in names}
+                            arguments[name] = value
+                            self.assertIs(outcome(call, arguments), BAD[name][1], (call.__name__, name, value))
 
     def test_two_wrong_arguments_the_first_one_tells(self):
         for call, names in CALLS:

@@ -1,5 +1,7 @@
 """Lots of threads: which are closed, and the parts of a board."""
 
+from itertools import combinations
+
 from wovenframes.boards import check_board, is_thread, steps
 from wovenframes.chains import reached, reaching
 from wovenframes.errors import BadLot
@@ -22,6 +24,11 @@ def check_lot(board, value):
 def together(lot, other):
     """The lot of the threads that are in one of two lots, or in both."""
     return tuple(sorted(set(lot + other)))
+
+
+def all_lots(board):
+    """The list of all lots, closed or not, the smaller first, those of one size ascending."""
+    return [lot for size in range(len(board) + 1) for lot in combinations(range(len(board)), size)]
 
 
 def is_closed(board, lot):

@@ -4,7 +4,7 @@ from wovenframes.boards import check_board, steps
 from wovenframes.chains import chain, is_walk
 from wovenframes.errors import NotClosed, NotLifting
 from wovenframes.lots import check_lot, closed_lots, holds, is_closed, is_lot
-from wovenframes.values import is_whole
+from wovenframes.values import are_whole, first_of
 
 GREATEST_ANGLE = 10 ** 6
 
@@ -17,16 +17,13 @@ def lifts_off(board, lot):
 def lifting(board):
     """The least of the smallest lots that lift off, or None."""
     # The first closed lot is the empty one and the last one all threads, which do not lift off.
-    lots = closed_lots(board)[1:-1]
-    return lots[0] if lots else None
+    return first_of(closed_lots(board)[1:-1])
 
 
 def is_motion(board, value):
     """Whether a value, any one, is a motion."""
     check_board(board)
-    if not isinstance(value, tuple) or len(value) != len(board):
-        return False
-    if not all([is_whole(angle, -GREATEST_ANGLE, GREATEST_ANGLE) for angle in value]):
+    if not are_whole(value, len(board), -GREATEST_ANGLE, GREATEST_ANGLE):
         return False
     return all([value[other] <= value[one] for one, other in steps(board)])
 
