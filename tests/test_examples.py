@@ -107,6 +107,67 @@ MOTIONS = '''
 [(-1, (((0, 1, 3), 3), ((0, 3), 3))), (5, 2, -1, 5), (4, ())]
 '''
 
+LATTICES = '''
+>>> from wovenframes.boards import Board
+>>> from wovenframes.lattices import greatest_between, least_between, lots_between
+>>> board = Board((">x", ".<"))
+>>> [lots_between(board, 0, 1), least_between(board, 0, 1), greatest_between(board, 0, 1), least_between(board, 1, 0)]
+[[(0, 3), (0, 2, 3)], (0, 3), (0, 2, 3), None]
+
+>>> from wovenframes.boards import Board
+>>> from wovenframes.lattices import generators, idle_steps, lean, made_by
+>>> board, whole = Board((">x", ".<")), Board(("xx", "xx"))
+>>> [generators(board), made_by(board, (0, 1, 2, 3)), idle_steps(board), len(idle_steps(whole)), lean(whole).cells]
+[[(0, 3), (0, 1, 3), (0, 2, 3)], [(0, 1, 3), (0, 2, 3)], [], 8, ('<>', '><')]
+
+>>> from wovenframes.boards import Board
+>>> from wovenframes.lattices import board_of, fewest_steps
+>>> from wovenframes.lots import closed_lots
+>>> lots = [(0, 1), (), (0,)]
+>>> [board_of(1, 1, lots).cells, fewest_steps(1, 1, lots), fewest_steps(2, 1, [(), (0,), (0, 1), (0, 1, 2)]), fewest_steps(2, 2, closed_lots(Board(("xx", "xx"))))]
+[('>',), 1, None, 4]
+'''
+
+ORDERS = '''
+>>> from wovenframes.boards import Board
+>>> from wovenframes.orders import count_orders, order_at, place_of
+>>> board = Board((">x", ".<"))
+>>> [count_orders(board), order_at(board, 1), place_of(board, ((0, 3), (1,), (2,))), count_orders(Board((".....",) * 5))]
+[2, ((0, 3), (2,), (1,)), 0, 3628800]
+'''
+
+PICTURES = '''
+>>> from wovenframes.boards import Board
+>>> from wovenframes.pictures import first_wrong, free_board, free_cells, seen, seen_behind, weaves
+>>> [seen(Board((">x", ".<")), ("a", "b", "c", "d")), seen_behind(Board((">x", ".<")), ("a", "b", "c", "d"))]
+[('ax', '.d'), ('xc', 'b.')]
+>>> [free_cells(("ab", "aa"), ("a", "a", "a", "b")), first_wrong(("ab", "ac"), ("a", "a", "a", "b")), first_wrong(("ab", "aa"), ("a", "a", "a", "b"))]
+[[(0, 0), (1, 0)], (1, 1), None]
+>>> [free_board(("ab", "aa"), ("a", "a", "a", "b")).cells, weaves(("ab", "aa"), ("a", "a", "a", "b"))]
+[('x<', 'x>'), [('<<', '<>'), ('<<', '>>'), ('><', '<>'), ('><', '>>')]]
+>>> free_board(("ab", "ac"), ("a", "a", "a", "b"))
+raises NotShown()
+'''
+
+HOLDWEAVES = '''
+>>> from wovenframes.holdweaves import bridges, holding_weave, many_holding, shows_holding, shows_why, why_not
+>>> [bridges(("ab", "aa"), ("a", "a", "a", "b")), holding_weave(("ab", "aa"), ("a", "a", "a", "b")), many_holding(("ab", "aa"), ("a", "a", "a", "b"))]
+[[], ('><', '<>'), 1]
+>>> [bridges(("a.", "aa"), ("a", "a", "a", "a")), why_not(("a.", "aa"), ("a", "a", "a", "a")), why_not(("ab", "aa"), ("a", "a", "b", "b"))]
+[[(0, 0), (1, 0), (1, 1)], ('bridge', 0, 0), ('lot', (1,))]
+>>> [shows_why(("ab", "aa"), ("a", "a", "b", "b"), ("lot", (1, 3))), shows_holding(("ab", "aa"), ("a", "a", "a", "b"), ("<<", ">>"))]
+[True, False]
+'''
+
+DYES = '''
+>>> from wovenframes.boards import Board
+>>> from wovenframes.dyes import colours_for, dyed, told_colours
+>>> [told_colours(Board((">x", ".<")), ("ax", ".d")), told_colours(Board((">>",)), ("ab",)), colours_for(("ab",))]
+[('a', None, None, 'd'), None, [('a', 'a', 'b'), ('a', 'b', 'b'), ('b', 'a', 'a'), ('b', 'a', 'b')]]
+>>> [dyed(("ab", "ba"), ("a", "b", "c", "c")), dyed(("ab", "aa"), ("a", "a", "a", "c")), dyed(("abc", "bca", "cab"), ("a", "a", "a", "a", "a", "a"))]
+[(0, 2, 3), (0,), None]
+'''
+
 
 def is_statement(source):
     """Whether an example's line is to be run, and shows nothing."""
@@ -162,6 +223,21 @@ class Examples(unittest.TestCase):
 
     def test_motions(self):
         self.check(MOTIONS)
+
+    def test_lattices(self):
+        self.check(LATTICES)
+
+    def test_orders(self):
+        self.check(ORDERS)
+
+    def test_pictures(self):
+        self.check(PICTURES)
+
+    def test_holdweaves(self):
+        self.check(HOLDWEAVES)
+
+    def test_dyes(self):
+        self.check(DYES)
 
 
 if __name__ == "__main__":

@@ -118,6 +118,37 @@ class Language(unittest.TestCase):
                 if isinstance(node, ast.arg):
                     self.assertNotIn(node.arg, ALL_BUILTINS, (path, node.lineno))
 
+    def test_no_name_stands_for_an_import_or_a_class_and_something_else(self):
+        for path, tree in self.trees.items():
+            taken = {name.name for node in tree.body if isinstance(node, ast.ImportFrom) for name in node.names}
+            taken |= {node.name for node in tree.body if isinstance(node, (ast.ClassDef, ast.FunctionDef))}
+            for node in ast.walk(tree):
+                if isinstance(node, ast.Name) and isinstance(node.ctx, ast.Store):
+                    self.assertNotIn(node.id, taken, (path, node.lineno))
+                if isinstance(node, ast.arg):
+                    self.assertNotIn(node.arg, taken, (path, node.lineno))
+
+    def test_sets_are_not_iterated_or_passed_on(self):
+        for path, tree in self.trees.items():
+            behind = {part: node for node in ast.walk(tree) for part in ast.iter_child_nodes(node)}
+            for node in ast.walk(tree):
+                named = isinstance(node, ast.Call) and isinstance(node.func, ast.Name) and node.func.id == "set"
+                if named or isinstance(node, (ast.Set, ast.SetComp)):
+                    around = behind[node]
+                    if isinstance(around, ast.Call):
+                        self.assertIn(around.func.id, ("sorted", "len"), (path, node.lineno))
+                        self.assertEqual(around.keywords, [], (path, node.lineno))
+                    else:
+                        self.assertIsInstance(around, (ast.Assign, ast.Compare, ast.BinOp), (path, node.lineno))
+
+    def test_products_are_called_plainly(self):
+        for path, tree in self.trees.items():
+            for node in ast.walk(tree):
+                if isinstance(node, ast.Call) and isinstance(node.func, ast.Name):
+                    if any(node.func.id in names for names in LIBRARY.values()):
+                        self.assertEqual(node.keywords, [], (path, node.lineno))
+                        self.assertFalse(any(isinstance(part, ast.Starred) for part in node.args), (path, node.lineno))
+
     def test_calls(self):
         nodes = [node for tree in self.trees.values() for node in ast.walk(tree)]
         own = {node.name for node in nodes if isinstance(node, ast.FunctionDef)}

@@ -5,17 +5,33 @@ from copy import deepcopy
 
 from plain import five_by_five, larger_boards, tiny_boards
 from plainloads import mixed_load, mixed_strengths
+from plainpictures import plain_seen
 
-from wovenframes import boards, carrying, chains, loadcuts, lots, motions, prices, readings, strengths
+from wovenframes import (
+    boards, carrying, chains, dyes, holdweaves, lattices, loadcuts, lots, motions, orders, pictures, prices, readings,
+    strengths,
+)
 from wovenframes.boards import Board
 from wovenframes.errors import WovenError
 
+
+
+def boardless(call):
+    """A call that is given a board ahead of its arguments, and leaves it out."""
+    return lambda board, *rest: call(*rest)
+
+
 # Each call with its arguments behind the board: a name stands for what `told_for` gives it.
+PAIR = ("picture", "colours")
+SIZED_LOTS = ("rows", "columns", "lots")
 LISTS = (
     (boards.steps, ()), (chains.reached, (0,)), (chains.reaching, (0,)), (lots.closed_lots, ()), (lots.parts, ()),
     (lots.layers, ()), (strengths.tight_lots, ("strengths", "load")),
     (strengths.first_to_break, ("strengths", "load")), (loadcuts.all_cuts, ("load",)),
-    (loadcuts.spared_cells, ("load",)), (motions.motions, (1,)),
+    (loadcuts.spared_cells, ("load",)), (motions.motions, (1,)), (lattices.lots_between, (0, 1)),
+    (lattices.generators, ()), (lattices.made_by, ("threads",)), (lattices.idle_steps, ()),
+    (boardless(pictures.free_cells), PAIR), (boardless(pictures.weaves), PAIR), (boardless(holdweaves.bridges), PAIR),
+    (boardless(dyes.colours_for), ("picture",)),
 )
 VALUES = (
     (boards.flipped, ()), (boards.turned, ()), (boards.with_cell, (0, 0, "x")), (chains.leads, (0, 1)),
@@ -29,12 +45,27 @@ VALUES = (
     (prices.greatest_pull, ("strengths", 0, 1)), (prices.narrowest, ("strengths", 0, 1)),
     (loadcuts.fewest_cuts, ("load",)), (loadcuts.fewest_fills, ("light",)), (loadcuts.first_fill, ("light",)),
     (motions.count_motions, (9,)), (motions.as_lots, ("motion",)), (motions.of_lots, (1, "heights")),
+    (lattices.least_between, (0, 1)), (lattices.greatest_between, (0, 1)), (lattices.lean, ()),
+    (boardless(lattices.board_of), SIZED_LOTS), (boardless(lattices.fewest_steps), SIZED_LOTS),
+    (orders.count_orders, ()), (orders.order_at, (0,)), (orders.place_of, ("order",)), (pictures.seen, ("colours",)),
+    (pictures.seen_behind, ("colours",)), (boardless(pictures.first_wrong), PAIR),
+    (boardless(pictures.free_board), PAIR), (boardless(holdweaves.holding_weave), PAIR),
+    (boardless(holdweaves.why_not), PAIR), (boardless(holdweaves.many_holding), PAIR),
+    (dyes.told_colours, ("picture",)), (boardless(dyes.dyed), PAIR),
 )
 
 
 def told_for(board, rest):
     """The arguments behind the board, with what stands for their names."""
+    colours = ("a",) * board.rows + ("b",) * board.columns
     named = {
+        "colours": colours,
+        "picture": plain_seen(board, colours),
+        "rows": board.rows,
+        "columns": board.columns,
+        "lots": lots.closed_lots(board),
+        "order": tuple(lots.layers(board)),
+        "threads": tuple(range(len(board))),
         "load": mixed_load(board, 3, 3),
         "light": (1, -1) + (0,) * (len(board) - 2),
         "strengths": mixed_strengths(board, 4, 9, 5),
@@ -75,14 +106,14 @@ class Unchanged(unittest.TestCase):
                     self.assertEqual({told: 1}, {told: 1})
 
     def test_equal_calls_give_equal_results(self):
-        for board in [*list(larger_boards())[::3], *five_by_five()]:
+        for board in [*list(larger_boards())[::7], *five_by_five()]:
             again = Board(tuple(board.cells))
             for call, rest in calls_for(board, (*LISTS, *VALUES)):
                 self.assertEqual(call(board, *rest), call(again, *deepcopy(rest)))
                 self.assertEqual(call(board, *rest), call(board, *rest))
 
     def test_the_arguments_stay_as_they_are(self):
-        for board in [*list(larger_boards())[1::3], *five_by_five()]:
+        for board in [*list(larger_boards())[1::5], *five_by_five()]:
             cells = tuple(board.cells)
             for call, rest in calls_for(board, (*LISTS, *VALUES)):
                 kept = deepcopy(rest)
@@ -101,11 +132,24 @@ class Unchanged(unittest.TestCase):
             motions.of_lots(board, 0, wrong)
         self.assertEqual(wrong, [((0, 3), 1), [1]])
 
+    def test_lots_in_a_list_stay_as_they_are(self):
+        some = [(0, 1), (), (0,)]
+        told = lattices.board_of(1, 1, some)
+        self.assertEqual(some, [(0, 1), (), (0,)])
+        some.clear()
+        self.assertEqual(told.cells, (">",))
+        wrong = [(), [0], (0, 1)]
+        with self.assertRaises(WovenError):
+            lattices.fewest_steps(1, 1, wrong)
+        self.assertEqual(wrong, [(), [0], (0, 1)])
+
     def test_values_that_are_only_told_of_stay_as_they_are(self):
         board, none = Board(("x",)), (0, 0)
         for call, rest in ((chains.shows_chain, (0, 1)), (readings.is_motion, ()), (readings.shows_ring, ()),
                            (readings.shows_verdict, ()), (carrying.shows_pulls, (none,)),
-                           (strengths.shows_held, (none, none)), (prices.shows_price, (none, none, none))):
+                           (strengths.shows_held, (none, none)), (prices.shows_price, (none, none, none)),
+                           (boardless(holdweaves.shows_holding), (("a",), ("a", "a"))),
+                           (boardless(holdweaves.shows_why), (("a",), ("a", "a")))):
             for value, same in (([0, 1, 0], [0, 1, 0]), ({"lot": [0]}, {"lot": [0]}), (("lot", [0]), ("lot", [0])),
                                 ([0, 0], [0, 0]), (((0, 0), [0, 0]), ((0, 0), [0, 0]))):
                 self.assertIs(call(board, *rest, value), False)
@@ -116,7 +160,10 @@ class Unchanged(unittest.TestCase):
         for call, rest in ((boards.with_cell, (0, 0, ["x"])), (lots.is_closed, (lot,)), (lots.least_closed, (lot,)),
                            (readings.as_motion, ((0,),)), (readings.as_load, ((0,),)), (chains.chain, (0, 4)),
                            (carrying.pulls, (lot,)), (strengths.holding, (lot, lot)),
-                           (prices.cheapest, (lot, lot, lot)), (loadcuts.all_cuts, (lot,)), (motions.as_lots, (lot,)), (motions.of_lots, (0, lot))):
+                           (prices.cheapest, (lot, lot, lot)), (loadcuts.all_cuts, (lot,)), (motions.as_lots, (lot,)),
+                           (motions.of_lots, (0, lot)), (lattices.made_by, (lot,)), (orders.place_of, (lot,)),
+                           (boardless(lattices.board_of), (1, 1, lot)), (pictures.seen, (lot,)),
+                           (boardless(pictures.weaves), (("a",), lot)), (dyes.told_colours, (cells,))):
             with self.assertRaises(WovenError):
                 call(board, *rest)
             self.assertEqual((board.cells, lot), ((">x", ".<"), [1, 0]))

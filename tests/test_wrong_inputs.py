@@ -4,7 +4,8 @@ import unittest
 from itertools import combinations
 
 from wovenframes import (
-    boards, carrying, chains, errors, loadcuts, lots, motions, prices, readings, strengths,
+    boards, carrying, chains, dyes, errors, holdweaves, lattices, loadcuts, lots, motions, orders, pictures, prices,
+    readings, strengths,
 )
 from wovenframes.boards import Board
 
@@ -60,8 +61,37 @@ BAD_HEIGHTS = (
     [((0, 0), 1)], [((3, 0), 1)], [((0, 3), 1)], [((), 1), None], [((), 10 ** 6 + 1)], [(1, ())], [BOARD],
     [(BOARD, 1)],
 )
+BAD_LINES = (*PLAIN, True, False, 0, 6, 7, -1, 10 ** 30)
+BAD_LISTS_OF_LOTS = (
+    None, True, False, 0, 1, "", "ab", {}, {(): 1}, BOARD, [None], [0], (0,), [[]], [[0]], ((1, 0),), [(0, 0)], [(5,)],
+    [(), ()], ((), (0,), ()), [(True,)], ((False,),), [("0",)], [(None,)], [{}], [((),)], (BOARD,), [(BOARD,)], [(), 7],
+)
+BAD_PLACES = (*PLAIN, True, False, -1, 1, 2, 10 ** 30)
+BAD_LIFT_ORDERS = (
+    *PLAIN, True, False, 1, ((2,), (0, 1, 3, 4)), ((0, 1, 3, 4),), ((0, 1, 3, 4), (2,), ()), [(0, 1, 3, 4), (2,)],
+    ((0, 1, 3, 4), (2,), (2,)), ((0, 1, 4, 3), (2,)), ([0, 1, 3, 4], (2,)), ((0, 1, 3, 4), 2), ((0, 1, 3), (4,), (2,)),
+    ((0, True, 3, 4), (2,)), ((0, 1, 3, 4), (None,)), ((0, 1, 3, 4), ("2",)), ((0, 1, 3, 4), BOARD), ((0, 1, 2, 3, 4),),
+)
+BAD_PICTURES = (
+    *PLAIN, True, False, 1, "ab", ["ab.", "cxa"], ("",), ("", ""), ("ab.", "cx"), ("ab.", "cxaa"), ("aaaaaa",),
+    ("a",) * 6, ("ab.", "cxf"), ("ab.", "cxA"), (">x<", ".<x"), ("ab.", None), ("ab.", 7), ("ab.", ("c", "x", "a")),
+    ("ab.", ["c", "x", "a"]), ("ab ", "cxa"), ("ab\n",), (b"a",), (True,), ({},),
+)
+BAD_COLOURS = (
+    *PLAIN, True, False, 1, "abbac", ["a", "b", "b", "a", "c"], ("a",) * 4, ("a",) * 6, ("a", "b", "b", "a", "f"),
+    ("A", "b", "b", "a", "c"), ("a", "b", "b", "a", "."), ("x", "b", "b", "a", "c"), ("a", "b", "b", "a", None),
+    ("a", "b", "b", "a", ""), ("ab", "b", "b", "a", "c"), ("a", "b", "b", "a", 1), ("a", "b", ("b",), "a", "c"),
+    ("a", "b", ["b"], "a", "c"), ("a", "b", {}, "a", "c"), (b"a", "b", "b", "a", "c"), ("a", "b", "b", "a", BOARD),
+)
 
 BAD = {
+    "rows": (BAD_LINES, errors.BadLines),
+    "columns": (BAD_LINES, errors.BadLines),
+    "lots": (BAD_LISTS_OF_LOTS, errors.BadLots),
+    "number": (BAD_PLACES, errors.BadPlace),
+    "lift_order": (BAD_LIFT_ORDERS, errors.BadLiftOrder),
+    "picture": (BAD_PICTURES, errors.BadPicture),
+    "colours": (BAD_COLOURS, errors.BadColours),
     "load": (BAD_LOADS, errors.BadLoad),
     "strengths": (BAD_STRENGTHS, errors.BadStrengths),
     "prices": (BAD_STRENGTHS, errors.BadPrices),
@@ -80,9 +110,13 @@ BAD = {
 }
 GOOD = {"board": BOARD, "one": 0, "other": 4, "row": 1, "column": 2, "sign": ".", "lot": (0, 3), "value": None,
         "load": (2, -1, -1, 0, 0), "strengths": (1, 2, 3, 4, 5, 6, 7), "prices": (0, 9, 0, 9, 0, 9, 0), "angle": 9,
-        "far_angle": 99, "least": 10 ** 6, "motion": (3, 3, -2, 3, 3), "heights": [((), 10 ** 6), ((0, 1, 3, 4), 0)]}
+        "far_angle": 99, "least": 10 ** 6, "motion": (3, 3, -2, 3, 3), "heights": [((), 10 ** 6), ((0, 1, 3, 4), 0)],
+        "rows": 2, "columns": 3, "lots": [(), (0, 1, 2, 3, 4), (0, 1, 3, 4)], "number": 0,
+        "lift_order": ((0, 1, 3, 4), (2,)), "picture": ("ab.", "cxa"), "colours": ("a", "b", "b", "a", "c")}
 # A table's name for an argument whose bounds are others here than elsewhere, and its name in the interface.
-OWN_NAMES = {"far_angle": "angle"}
+OWN_NAMES = {"far_angle": "angle", "lift_order": "order"}
+# Values that are wrong for most arguments, but not for these.
+NOT_WRONG = (("least", -2), ("lots", ((0,),)))
 
 CALLS = (
     (boards.steps, ("board",)),
@@ -135,6 +169,33 @@ CALLS = (
     (motions.count_motions, ("board", "far_angle")),
     (motions.as_lots, ("board", "motion")),
     (motions.of_lots, ("board", "least", "heights")),
+    (lattices.lots_between, ("board", "one", "other")),
+    (lattices.least_between, ("board", "one", "other")),
+    (lattices.greatest_between, ("board", "one", "other")),
+    (lattices.generators, ("board",)),
+    (lattices.made_by, ("board", "lot")),
+    (lattices.idle_steps, ("board",)),
+    (lattices.lean, ("board",)),
+    (lattices.board_of, ("rows", "columns", "lots")),
+    (lattices.fewest_steps, ("rows", "columns", "lots")),
+    (orders.count_orders, ("board",)),
+    (orders.order_at, ("board", "number")),
+    (orders.place_of, ("board", "lift_order")),
+    (pictures.seen, ("board", "colours")),
+    (pictures.seen_behind, ("board", "colours")),
+    (pictures.first_wrong, ("picture", "colours")),
+    (pictures.free_cells, ("picture", "colours")),
+    (pictures.free_board, ("picture", "colours")),
+    (pictures.weaves, ("picture", "colours")),
+    (holdweaves.bridges, ("picture", "colours")),
+    (holdweaves.holding_weave, ("picture", "colours")),
+    (holdweaves.shows_holding, ("picture", "colours", "value")),
+    (holdweaves.why_not, ("picture", "colours")),
+    (holdweaves.shows_why, ("picture", "colours", "value")),
+    (holdweaves.many_holding, ("picture", "colours")),
+    (dyes.told_colours, ("board", "picture")),
+    (dyes.colours_for, ("picture",)),
+    (dyes.dyed, ("picture", "colours")),
 )
 
 
@@ -151,7 +212,7 @@ class WrongInputs(unittest.TestCase):
     def test_the_calls_without_a_wrong_argument(self):
         for call, names in CALLS:
             with self.subTest(call=call.__name__):
-                wrong = (errors.NotClosed, errors.NotLifting, errors.TooMany)
+                wrong = (errors.NotClosed, errors.NotLifting, errors.TooMany, errors.NotShown)
                 self.assertIn(outcome(call, {name: GOOD[name] for name in names}), (None, *wrong))
 
     def test_one_wrong_argument(self):
@@ -170,11 +231,13 @@ class WrongInputs(unittest.TestCase):
             good = {
                 **GOOD, "board": board, "one": 0, "other": 1, "row": 0, "column": 0, "lot": (), "load": (0,) * many,
                 "strengths": (1,) * pairs, "prices": (1,) * pairs, "motion": (1,) * many, "heights": [((), 1)],
+                "rows": board.rows, "columns": board.columns, "lots": [()], "lift_order": tuple(lots.layers(board)),
+                "picture": ("a" * board.columns,) * board.rows, "colours": ("a",) * many,
             }
             for call, names in CALLS:
                 for name in names:
                     for value in (None, True, "0", [0], {0: 0}, ((0,),), (None,), -2, 10 ** 30):
-                        if name in BAD and not (name == "least" and value == -2):
+                        if name in BAD and (name, value) not in NOT_WRONG:
                             arguments = {other: good[other] for other in names}
                             arguments[name] = value
                             self.assertIs(outcome(call, arguments), BAD[name][1], (call.__name__, name, value))
@@ -190,7 +253,7 @@ class WrongInputs(unittest.TestCase):
 
     def test_all_arguments_wrong(self):
         for call, names in CALLS:
-            self.assertIs(outcome(call, {name: None for name in names}), errors.BadBoard)
+            self.assertIs(outcome(call, {name: None for name in names}), BAD[names[0]][1])
 
     def test_each_row_and_column_and_thread_that_there_is(self):
         for row in range(2):

@@ -1,11 +1,10 @@
 """Boards: tables of cells, and the steps between their threads."""
 
 from wovenframes.errors import BadBoard, BadCells, BadColumn, BadRow, BadSign, BadThread
-from wovenframes.values import is_whole
+from wovenframes.values import is_table, is_whole
 
 SIGNS = (".", "<", ">", "x")
 OTHER_WAY = {".": ".", "<": ">", ">": "<", "x": "x"}
-LONGEST_SIDE = 5
 
 
 class Board:
@@ -38,18 +37,7 @@ class Board:
 
 def is_cells(value):
     """Whether a value is the cells of some board."""
-    if not isinstance(value, tuple) or not 1 <= len(value) <= LONGEST_SIDE:
-        return False
-    if not all([isinstance(signs, str) for signs in value]):
-        return False
-    if not 1 <= len(value[0]) <= LONGEST_SIDE:
-        return False
-    return all([len(signs) == len(value[0]) and is_signs(signs) for signs in value])
-
-
-def is_signs(text):
-    """Whether each character of a text is a sign."""
-    return all([sign in SIGNS for sign in text])
+    return is_table(value, SIGNS)
 
 
 def check_board(value):
@@ -89,6 +77,25 @@ def steps(board):
             if sign in ("<", "x"):
                 found.append((across, row))
     return sorted(found)
+
+
+def sign_for(ahead, back):
+    """The sign of a cell that leads from its row to its column, and back, or not."""
+    if ahead and back:
+        return "x"
+    if ahead:
+        return ">"
+    return "<" if back else "."
+
+
+def from_steps(rows, columns, pairs):
+    """The board with so many rows and columns whose steps are some pairs of threads."""
+    return Board(tuple([
+        "".join([
+            sign_for((row, across) in pairs, (across, row) in pairs) for across in range(rows, rows + columns)
+        ])
+        for row in range(rows)
+    ]))
 
 
 def flipped(board):

@@ -26,6 +26,16 @@ def together(lot, other):
     return tuple(sorted(set(lot + other)))
 
 
+def lies_in(lot, other):
+    """Whether all threads of a lot are in another one."""
+    return all([thread in other for thread in lot])
+
+
+def in_order(lots):
+    """The list of some lots, the smaller first, those of one size ascending."""
+    return sorted(lots, key=lambda lot: (len(lot), lot))
+
+
 def all_lots(board):
     """The list of all lots, closed or not, the smaller first, those of one size ascending."""
     return [lot for size in range(len(board) + 1) for lot in combinations(range(len(board)), size)]
@@ -47,7 +57,7 @@ def closed_lots(board):
         least = tuple(reaching(board, thread))
         for lot in list(found):
             found[together(lot, least)] = True
-    return sorted(list(found), key=lambda lot: (len(lot), lot))
+    return in_order(list(found))
 
 
 def least_closed(board, lot):
@@ -88,4 +98,5 @@ def layers(board):
 
 def holds(board):
     """Whether all threads are one part."""
-    return len(parts(board)) == 1
+    check_board(board)
+    return len(part_of(board, 0)) == len(board)

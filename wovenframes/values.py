@@ -1,5 +1,7 @@
 """What the program asks of plain values."""
 
+LONGEST_SIDE = 5
+
 
 def is_number(value):
     """Whether a value is an integer."""
@@ -30,3 +32,22 @@ def is_ascending(values):
 def first_of(values):
     """The first one of a list, None if it is empty."""
     return values[0] if values else None
+
+
+def is_table(value, signs):
+    """Whether a value is a tuple of 1 to 5 strings, all of one length from 1 to 5, of some signs."""
+    if not isinstance(value, tuple) or not 1 <= len(value) <= LONGEST_SIDE:
+        return False
+    if not all([isinstance(line, str) for line in value]):
+        return False
+    if not 1 <= len(value[0]) <= LONGEST_SIDE:
+        return False
+    return all([len(line) == len(value[0]) and all([sign in signs for sign in line]) for line in value])
+
+
+def picks(choices):
+    """The list of all tuples of one thing of each of some lists, in the order of the lists."""
+    rows = [()]
+    for things in choices:
+        rows = [row + (thing,) for row in rows for thing in things]
+    return rows
