@@ -168,6 +168,59 @@ DYES = '''
 [(0, 2, 3), (0,), None]
 '''
 
+MENDS = '''
+>>> from wovenframes.mends import first_mend, is_mend, mend_paper, shows_mend
+>>> [first_mend(("aa", "aa"), ("a", "a", "b", "b")), first_mend(("ab", "aa"), ("a", "a", "a", "b")), first_mend(("aa",), ("a", "b", "b"))]
+[((0, 0), (1, 1)), (), None]
+>>> [is_mend(("aa", "aa"), ("a", "a", "b", "b"), ((0, 1), (1, 0))), shows_mend(("aa", "aa"), ("a", "a", "b", "b"), (((0, 0), (1, 1)), [(0,), (1,)]))]
+[True, True]
+>>> shows_mend(("aa", "aa"), ("a", "a", "b", "b"), mend_paper(("aa", "aa"), ("a", "a", "b", "b")))
+True
+'''
+
+JOINS = '''
+>>> from wovenframes.boards import Board
+>>> from wovenframes.joins import agreeing_lots, beneath, beside, first_apart, joined, places, shows_split, split_load
+>>> one, other = Board((">", "<")), Board(("<>",))
+>>> [joined(one, other, ((0, 0), (2, 1))).cells, places(one, other, ((0, 0), (2, 1))), beside(one, one).cells, beneath(one, one).cells]
+[('x>', '<.'), ((0, 1, 2), (0, 2, 3)), ('>>', '<<'), ('>', '<', '>', '<')]
+>>> [agreeing_lots(one, other, ((0, 0), (2, 1))), first_apart(one, other, ((0, 0), (2, 1)))]
+[[((), ()), ((0, 2), (0, 1)), ((0, 1, 2), (0, 1)), ((0, 2), (0, 1, 2)), ((0, 1, 2), (0, 1, 2))], ((0, 2), (0, 1))]
+>>> [split_load(one, other, ((0, 0), (2, 1)), (2, -1, 0, -1)), split_load(one, other, ((0, 0), (2, 1)), (-1, 0, 0, 1))]
+[((1, -1, 0), (1, 0, -1)), None]
+>>> shows_split(one, other, ((0, 0), (2, 1)), (2, -1, 0, -1), ((1, -1, 0), (1, 0, -1)))
+True
+'''
+
+DRAWINGS = '''
+>>> from wovenframes.boards import Board
+>>> from wovenframes.drawings import alike, bare, drawn, drawn_to, exchanged, lots_with, parted, pieces
+>>> board = Board((">x", ".<"))
+>>> [drawn(board, (0, 1)).cells, drawn_to(board, (0, 1)), lots_with(board, (0, 1)), bare(board).cells]
+[('>x',), (0, 0, 1, 2), [(), (0, 1, 3), (0, 1, 2, 3)], ('>x', '.<')]
+>>> [exchanged(board, (1, 0, 3, 2)).cells, alike(board, Board(("<.", "x>"))), alike(board, Board((">x", ".>"))), pieces(Board((">.", ".<")))]
+[('<.', 'x>'), (1, 0, 3, 2), None, [(0, 2), (1, 3)]]
+>>> [half.cells for half in parted(board, 1)]
+[('>', '.'), ('x', '<')]
+'''
+
+BUILDERS = '''
+>>> from wovenframes.boards import Board
+>>> from wovenframes.builders import acted, begun, movers
+>>> board, builders = Board((">",)), ((("cut", 0, 0), ("fill", 0, 0, "x")), (("stand", 1), ("leave",)))
+>>> [begun(board, builders), movers(board, builders, begun(board, builders))]
+[(('>',), (0, 0), (None, None)), (0, 1)]
+>>> [acted(board, builders, (("x",), (1, 1), (None, 1)), 0), acted(board, builders, (("x",), (1, 1), (None, 1)), 1)]
+[None, (('x',), (1, 2), (None, None))]
+'''
+
+STANDING = '''
+>>> from wovenframes.boards import Board
+>>> from wovenframes.standing import can_stand, dividing_lot
+>>> [can_stand(Board((">",)), (0, 1)), dividing_lot(Board((">",)), (0, 1)), can_stand(Board(("x",)), (0, 1)), dividing_lot(Board(("x",)), (0, 1))]
+[False, (0,), True, None]
+'''
+
 
 def is_statement(source):
     """Whether an example's line is to be run, and shows nothing."""
@@ -238,6 +291,21 @@ class Examples(unittest.TestCase):
 
     def test_dyes(self):
         self.check(DYES)
+
+    def test_mends(self):
+        self.check(MENDS)
+
+    def test_joins(self):
+        self.check(JOINS)
+
+    def test_drawings(self):
+        self.check(DRAWINGS)
+
+    def test_builders(self):
+        self.check(BUILDERS)
+
+    def test_standing(self):
+        self.check(STANDING)
 
 
 if __name__ == "__main__":

@@ -8,8 +8,8 @@ from plainloads import mixed_load, mixed_strengths
 from plainpictures import plain_seen
 
 from wovenframes import (
-    boards, carrying, chains, dyes, holdweaves, lattices, loadcuts, lots, motions, orders, pictures, prices, readings,
-    strengths,
+    boards, builders, carrying, chains, drawings, dyes, holdweaves, joins, lattices, loadcuts, lots, mends, motions, orders,
+    pictures, prices, readings, standing, strengths,
 )
 from wovenframes.boards import Board
 from wovenframes.errors import WovenError
@@ -24,6 +24,8 @@ def boardless(call):
 # Each call with its arguments behind the board: a name stands for what `told_for` gives it.
 PAIR = ("picture", "colours")
 SIZED_LOTS = ("rows", "columns", "lots")
+WITH_ITSELF = ("board", "shared")
+WORK = ("builders", "state")
 LISTS = (
     (boards.steps, ()), (chains.reached, (0,)), (chains.reaching, (0,)), (lots.closed_lots, ()), (lots.parts, ()),
     (lots.layers, ()), (strengths.tight_lots, ("strengths", "load")),
@@ -31,7 +33,8 @@ LISTS = (
     (loadcuts.spared_cells, ("load",)), (motions.motions, (1,)), (lattices.lots_between, (0, 1)),
     (lattices.generators, ()), (lattices.made_by, ("threads",)), (lattices.idle_steps, ()),
     (boardless(pictures.free_cells), PAIR), (boardless(pictures.weaves), PAIR), (boardless(holdweaves.bridges), PAIR),
-    (boardless(dyes.colours_for), ("picture",)),
+    (boardless(dyes.colours_for), ("picture",)), (joins.agreeing_lots, WITH_ITSELF), (drawings.lots_with, ((0,),)),
+    (drawings.pieces, ()),
 )
 VALUES = (
     (boards.flipped, ()), (boards.turned, ()), (boards.with_cell, (0, 0, "x")), (chains.leads, (0, 1)),
@@ -51,7 +54,12 @@ VALUES = (
     (pictures.seen_behind, ("colours",)), (boardless(pictures.first_wrong), PAIR),
     (boardless(pictures.free_board), PAIR), (boardless(holdweaves.holding_weave), PAIR),
     (boardless(holdweaves.why_not), PAIR), (boardless(holdweaves.many_holding), PAIR),
-    (dyes.told_colours, ("picture",)), (boardless(dyes.dyed), PAIR),
+    (dyes.told_colours, ("picture",)), (boardless(dyes.dyed), PAIR), (boardless(mends.first_mend), PAIR),
+    (boardless(mends.mend_paper), PAIR), (joins.joined, WITH_ITSELF), (joins.places, WITH_ITSELF),
+    (joins.first_apart, WITH_ITSELF), (joins.split_load, (*WITH_ITSELF, "load")), (drawings.drawn, ("threads",)),
+    (drawings.drawn_to, ("threads",)), (drawings.bare, ()), (drawings.exchanged, ("threads",)),
+    (drawings.alike, ("board",)), (builders.begun, ("builders",)), (builders.movers, WORK), (builders.acted, (*WORK, 0)),
+    (standing.can_stand, ("threads",)), (standing.dividing_lot, ("threads",)),
 )
 
 
@@ -66,6 +74,10 @@ def told_for(board, rest):
         "lots": lots.closed_lots(board),
         "order": tuple(lots.layers(board)),
         "threads": tuple(range(len(board))),
+        "board": board,
+        "shared": tuple((thread, thread) for thread in range(len(board))),
+        "builders": ((("stand", 0), ("cut", 0, 0)), (("leave",),)),
+        "state": (board.cells, (1, 0), (0, None)),
         "load": mixed_load(board, 3, 3),
         "light": (1, -1) + (0,) * (len(board) - 2),
         "strengths": mixed_strengths(board, 4, 9, 5),
@@ -132,6 +144,18 @@ class Unchanged(unittest.TestCase):
             motions.of_lots(board, 0, wrong)
         self.assertEqual(wrong, [((0, 3), 1), [1]])
 
+    def test_the_halves_of_a_parted_board_are_boards_of_their_own(self):
+        board = Board((">x", ".<"))
+        for half, again in zip(drawings.parted(board, 1), drawings.parted(board, 1)):
+            self.assertIsInstance(half, Board)
+            self.assertEqual(half, again)
+        self.assertEqual(board.cells, (">x", ".<"))
+
+    def test_lots_of_a_mend_paper_stay_as_they_are(self):
+        some = [(0,), (1,)]
+        self.assertIs(mends.shows_mend(("aa", "aa"), ("a", "a", "b", "b"), (((0, 0), (1, 1)), some)), True)
+        self.assertEqual(some, [(0,), (1,)])
+
     def test_lots_in_a_list_stay_as_they_are(self):
         some = [(0, 1), (), (0,)]
         told = lattices.board_of(1, 1, some)
@@ -149,9 +173,12 @@ class Unchanged(unittest.TestCase):
                            (readings.shows_verdict, ()), (carrying.shows_pulls, (none,)),
                            (strengths.shows_held, (none, none)), (prices.shows_price, (none, none, none)),
                            (boardless(holdweaves.shows_holding), (("a",), ("a", "a"))),
-                           (boardless(holdweaves.shows_why), (("a",), ("a", "a")))):
+                           (boardless(holdweaves.shows_why), (("a",), ("a", "a"))),
+                           (boardless(mends.is_mend), (("a",), ("a", "a"))),
+                           (boardless(mends.shows_mend), (("a",), ("a", "a"))),
+                           (joins.shows_split, (Board((".",)), ((0, 0), (1, 1)), (0, 0)))):
             for value, same in (([0, 1, 0], [0, 1, 0]), ({"lot": [0]}, {"lot": [0]}), (("lot", [0]), ("lot", [0])),
-                                ([0, 0], [0, 0]), (((0, 0), [0, 0]), ((0, 0), [0, 0]))):
+                                ([0, 0], [0, 0]), (((0, 0), [0, 0]), ((0, 0), [0, 0])), (((), [()]), ((), [()]))):
                 self.assertIs(call(board, *rest, value), False)
                 self.assertEqual(value, same)
 
@@ -163,7 +190,10 @@ class Unchanged(unittest.TestCase):
                            (prices.cheapest, (lot, lot, lot)), (loadcuts.all_cuts, (lot,)), (motions.as_lots, (lot,)),
                            (motions.of_lots, (0, lot)), (lattices.made_by, (lot,)), (orders.place_of, (lot,)),
                            (boardless(lattices.board_of), (1, 1, lot)), (pictures.seen, (lot,)),
-                           (boardless(pictures.weaves), (("a",), lot)), (dyes.told_colours, (cells,))):
+                           (boardless(pictures.weaves), (("a",), lot)), (dyes.told_colours, (cells,)),
+                           (boardless(mends.first_mend), (("a",), lot)), (joins.joined, (board, lot)),
+                           (drawings.drawn, (lot,)), (drawings.exchanged, (lot,)), (builders.begun, (lot,)),
+                           (standing.can_stand, (lot,))):
             with self.assertRaises(WovenError):
                 call(board, *rest)
             self.assertEqual((board.cells, lot), ((">x", ".<"), [1, 0]))

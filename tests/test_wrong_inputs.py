@@ -4,8 +4,8 @@ import unittest
 from itertools import combinations
 
 from wovenframes import (
-    boards, carrying, chains, dyes, errors, holdweaves, lattices, loadcuts, lots, motions, orders, pictures, prices,
-    readings, strengths,
+    boards, builders, carrying, chains, drawings, dyes, errors, holdweaves, joins, lattices, loadcuts, lots, mends, motions,
+    orders, pictures, prices, readings, standing, strengths,
 )
 from wovenframes.boards import Board
 
@@ -83,8 +83,43 @@ BAD_COLOURS = (
     ("a", "b", "b", "a", ""), ("ab", "b", "b", "a", "c"), ("a", "b", "b", "a", 1), ("a", "b", ("b",), "a", "c"),
     ("a", "b", ["b"], "a", "c"), ("a", "b", {}, "a", "c"), (b"a", "b", "b", "a", "c"), ("a", "b", "b", "a", BOARD),
 )
+BAD_SHARED = (
+    *PLAIN, True, False, 1, [(0, 0)], ((0, 0), (0, 1)), ((0, 0), (1, 0)), ((1, 1), (0, 0)), ((0, 2),), ((2, 0),), ((2, 5),),
+    ((-1, 0),), ((0, -1),), ((True, 0),), ((0, False),), ((0, 0, 0),), ([0, 0],), ((0, "0"),), ((0, (0,)),), ((0, None),),
+    ((0, 0), (2, 2), (2, 3)), ((0, 0), (2, 2), (3, 2)), ((5, 2),), (BOARD, BOARD), ((0, BOARD),), ((10 ** 30, 0),),
+)
+BAD_THREAD_ORDERS = (
+    *PLAIN, True, False, 1, (2, 3, 4, 0, 1), (0, 1, 2, 3), (0, 1, 2, 3, 4, 5), (0, 0, 2, 3, 4), (0, 1, 2, 2, 4), [0, 1, 2, 3, 4],
+    (0, 1, 2, 3, 5), (-1, 1, 2, 3, 4), (False, 1, 2, 3, 4), (0, True, 2, 3, 4), (0, 1, 2, 3, None), (0, 1, 2, 3, "4"),
+    (0, 1, 2, 3, (4,)), (0, 2, 1, 3, 4), (0, 1, 2, 3, [4]), (0, 1, 2, 3, BOARD),
+)
+BAD_MANY = (*PLAIN, True, False, 0, -1, 3, 4, 10 ** 30)
+LEAVE = ("leave",)
+BAD_BUILDERS = (
+    *PLAIN[:8], True, False, 1, (), ((),) * 4, [()], (LEAVE,), ((LEAVE,) * 7,), ([LEAVE],), (LEAVE, ()), (((LEAVE,),),),
+    ((("cut", 2, 0),),), ((("cut", 0, 3),),), ((("cut", True, 0),),), ((("fill", 0, 0, "."),),), ((("stand", 5),),),
+    ((("stand", True),),), ((("leave", 0),),), ((["leave"],),), ((), None), ((), (None,)), BOARD, (BOARD,),
+)
+BAD_STATES = (
+    *PLAIN, True, False, 1, ((">x<", ".<x"), (0, 0)), [(">x<", ".<x"), (0, 0), (None, None)],
+    ((">x<",), (0, 0), (None, None)), (BOARD, (0, 0), (None, None)), (("abc", "abc"), (0, 0), (None, None)),
+    ((">x<", ".<x"), (0, 2), (None, None)), ((">x<", ".<x"), (0, -1), (None, None)), ((">x<", ".<x"), (0,), (None, None)),
+    ((">x<", ".<x"), (False, 0), (None, None)), ((">x<", ".<x"), [0, 0], (None, None)), ((">x<", ".<x"), (0, 0), (None,)),
+    ((">x<", ".<x"), (0, 0), (5, None)), ((">x<", ".<x"), (0, 0), (True, None)), ((">x<", ".<x"), (0, 0), [None, None]),
+    ((">x<", ".<x"), (0, 0), ("0", None)), ((">x<", ".<x"), (0, 0), (None, None), ()), ((">x<", ".<x"), None, None),
+)
+BAD_BUILDER = (*PLAIN, True, False, -1, 2, 3, 10 ** 30)
 
 BAD = {
+    "one_board": (BAD_BOARDS, errors.BadBoard),
+    "other_board": (BAD_BOARDS, errors.BadBoard),
+    "shared": (tuple(value for value in BAD_SHARED if value != ()), errors.BadShared),
+    "thread_order": (BAD_THREAD_ORDERS, errors.BadThreads),
+    "many": (BAD_MANY, errors.BadColumn),
+    "builders": (BAD_BUILDERS, errors.BadBuilders),
+    "state": (BAD_STATES, errors.BadState),
+    "builder": (BAD_BUILDER, errors.BadBuilder),
+    "threads": (BAD_LOTS, errors.BadThreads),
     "rows": (BAD_LINES, errors.BadLines),
     "columns": (BAD_LINES, errors.BadLines),
     "lots": (BAD_LISTS_OF_LOTS, errors.BadLots),
@@ -112,9 +147,14 @@ GOOD = {"board": BOARD, "one": 0, "other": 4, "row": 1, "column": 2, "sign": "."
         "load": (2, -1, -1, 0, 0), "strengths": (1, 2, 3, 4, 5, 6, 7), "prices": (0, 9, 0, 9, 0, 9, 0), "angle": 9,
         "far_angle": 99, "least": 10 ** 6, "motion": (3, 3, -2, 3, 3), "heights": [((), 10 ** 6), ((0, 1, 3, 4), 0)],
         "rows": 2, "columns": 3, "lots": [(), (0, 1, 2, 3, 4), (0, 1, 3, 4)], "number": 0,
-        "lift_order": ((0, 1, 3, 4), (2,)), "picture": ("ab.", "cxa"), "colours": ("a", "b", "b", "a", "c")}
+        "lift_order": ((0, 1, 3, 4), (2,)), "picture": ("ab.", "cxa"), "colours": ("a", "b", "b", "a", "c"),
+        "one_board": BOARD, "other_board": BOARD, "shared": tuple((thread, thread) for thread in range(5)),
+        "thread_order": (1, 0, 2, 4, 3), "many": 2, "builders": ((("cut", 1, 2),), (LEAVE,)),
+        "state": ((">x<", ".<x"), (0, 1), (4, None)), "builder": 1, "threads": (0, 3)}
 # A table's name for an argument whose bounds are others here than elsewhere, and its name in the interface.
-OWN_NAMES = {"far_angle": "angle", "lift_order": "order"}
+OWN_NAMES = {
+    "far_angle": "angle", "lift_order": "order", "thread_order": "order", "one_board": "one", "other_board": "other",
+}
 # Values that are wrong for most arguments, but not for these.
 NOT_WRONG = (("least", -2), ("lots", ((0,),)))
 
@@ -196,6 +236,31 @@ CALLS = (
     (dyes.told_colours, ("board", "picture")),
     (dyes.colours_for, ("picture",)),
     (dyes.dyed, ("picture", "colours")),
+    (mends.first_mend, ("picture", "colours")),
+    (mends.is_mend, ("picture", "colours", "value")),
+    (mends.mend_paper, ("picture", "colours")),
+    (mends.shows_mend, ("picture", "colours", "value")),
+    (joins.joined, ("one_board", "other_board", "shared")),
+    (joins.places, ("one_board", "other_board", "shared")),
+    (joins.beside, ("one_board", "other_board")),
+    (joins.beneath, ("one_board", "other_board")),
+    (joins.agreeing_lots, ("one_board", "other_board", "shared")),
+    (joins.first_apart, ("one_board", "other_board", "shared")),
+    (joins.split_load, ("one_board", "other_board", "shared", "load")),
+    (joins.shows_split, ("one_board", "other_board", "shared", "load", "value")),
+    (drawings.drawn, ("board", "lot")),
+    (drawings.drawn_to, ("board", "lot")),
+    (drawings.lots_with, ("board", "lot")),
+    (drawings.bare, ("board",)),
+    (drawings.exchanged, ("board", "thread_order")),
+    (drawings.alike, ("one_board", "other_board")),
+    (drawings.pieces, ("board",)),
+    (drawings.parted, ("board", "many")),
+    (builders.begun, ("board", "builders")),
+    (builders.movers, ("board", "builders", "state")),
+    (builders.acted, ("board", "builders", "state", "builder")),
+    (standing.can_stand, ("board", "threads")),
+    (standing.dividing_lot, ("board", "threads")),
 )
 
 
@@ -212,7 +277,7 @@ class WrongInputs(unittest.TestCase):
     def test_the_calls_without_a_wrong_argument(self):
         for call, names in CALLS:
             with self.subTest(call=call.__name__):
-                wrong = (errors.NotClosed, errors.NotLifting, errors.TooMany, errors.NotShown)
+                wrong = (errors.NotClosed, errors.NotLifting, errors.TooMany, errors.NotShown, errors.BadJoin)
                 self.assertIn(outcome(call, {name: GOOD[name] for name in names}), (None, *wrong))
 
     def test_one_wrong_argument(self):
@@ -233,6 +298,9 @@ class WrongInputs(unittest.TestCase):
                 "strengths": (1,) * pairs, "prices": (1,) * pairs, "motion": (1,) * many, "heights": [((), 1)],
                 "rows": board.rows, "columns": board.columns, "lots": [()], "lift_order": tuple(lots.layers(board)),
                 "picture": ("a" * board.columns,) * board.rows, "colours": ("a",) * many,
+                "one_board": board, "other_board": board, "shared": tuple((thread, thread) for thread in range(many)),
+                "thread_order": tuple(range(many)), "many": 1, "builders": ((LEAVE,),),
+                "state": (board.cells, (0,), (None,)), "builder": 0, "threads": (),
             }
             for call, names in CALLS:
                 for name in names:

@@ -1,6 +1,6 @@
 """Pictures: what a woven board shows in its colours, and the boards that show a picture."""
 
-from wovenframes.boards import SIGNS, Board, check_board
+from wovenframes.boards import SIGNS, Board, check_board, turned
 from wovenframes.errors import BadColours, BadPicture, NotShown, TooMany
 from wovenframes.values import first_of, is_table, is_whole, picks
 
@@ -51,7 +51,9 @@ def threads_at(picture, cell):
 
 def face(sign, above, below):
     """What a cell shows: by ">" the one colour, by "<" the other one, otherwise its sign."""
-    return {">": above, "<": below}.get(sign, sign)
+    if sign == ">":
+        return above
+    return below if sign == "<" else sign
 
 
 def seen(board, colours):
@@ -66,13 +68,8 @@ def seen(board, colours):
 
 def seen_behind(board, colours):
     """The picture that a woven board and colours show from behind."""
-    check_board(board)
-    check_colours(len(board), colours)
-    lines = [
-        "".join([face(sign, other, colour) for sign, other in zip(signs, colours[board.rows:])])
-        for signs, colour in zip(board.cells, colours)
-    ]
-    return tuple([line[::-1] for line in lines])
+    # From behind the other thread of each cell lies over, as if each step led the other way.
+    return tuple([line[::-1] for line in seen(turned(board), colours)])
 
 
 def choices(picture, colours, cell):
@@ -107,7 +104,7 @@ def as_board(picture, signs):
 
 
 def loose_board(picture, colours, knotted):
-    """The board with "x" in some cells, and in those free or not to be shown, and in the others what shows them."""
+    """The board with "x" in some cells, in the free ones and the wrong ones, and in each other one what shows it."""
     signs = []
     for cell in cells_of(picture):
         able = choices(picture, colours, cell)
