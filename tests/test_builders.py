@@ -3,8 +3,9 @@
 import unittest
 from itertools import product
 
-from plain import five_by_five, mixed_board, plain_leads, tiny_boards
-from plainloads import mixed_numbers, with_signs
+from plain import mixed_board
+from plainloads import mixed_numbers
+from plainwork import plain_acted, states_that_come, tried
 
 from wovenframes.boards import Board
 from wovenframes.builders import acted, begun, movers
@@ -12,79 +13,6 @@ from wovenframes.errors import BadBuilder, BadBuilders, BadState
 
 BOARD = Board((">",))
 BUILDERS = ((("cut", 0, 0), ("fill", 0, 0, "x")), (("stand", 1), ("leave",)))
-
-
-def some_deed(board, seed):
-    kind, row, column, sign, thread = mixed_numbers(seed, 5, 0, 10 ** 4)
-    row, column, thread = row % board.rows, column % board.columns, thread % (board.rows + board.columns)
-    return (
-        ("fill", row, column, "<>x"[sign % 3]), ("cut", row, column), ("stand", thread), ("leave",), ("stand", thread),
-        ("leave",), ("fill", row, column, "x"),
-    )[kind % 7]
-
-
-def some_builders(board, seed):
-    """Builders whose deeds look thrown, and are the same in each run."""
-    many = 1 + seed % 3
-    return tuple(
-        tuple(some_deed(board, seed * 100 + builder * 10 + at) for at in range((seed + 2 * builder) % 7))
-        for builder in range(many)
-    )
-
-
-def plain_acted(builders, state, builder):
-    """The state behind the next deed of a builder, as the words tell it, or None."""
-    cells, done, threads = state
-    if done[builder] >= len(builders[builder]):
-        return None
-    word, *rest = builders[builder][done[builder]]
-    stands = list(threads)
-    if word == "fill":
-        row, column, sign = rest
-        if cells[row][column] != ".":
-            return None
-        cells = with_signs(Board(cells), [(row, column)], sign)
-    elif word == "cut":
-        row, column = rest
-        if cells[row][column] == ".":
-            return None
-        cells = with_signs(Board(cells), [(row, column)], ".")
-    elif word == "stand":
-        if stands[builder] is not None:
-            return None
-        stands[builder] = rest[0]
-    else:
-        if stands[builder] is None:
-            return None
-        stands[builder] = None
-    pairs = plain_leads(Board(cells))
-    stood = [thread for thread in stands if thread is not None]
-    if not all((one, other) in pairs for one, other in product(stood, repeat=2)):
-        return None
-    return cells, tuple(many + (at == builder) for at, many in enumerate(done)), tuple(stands)
-
-
-def states_that_come(board, builders):
-    """All states behind any orders, by plain search from the first one."""
-    first = (board.cells, (0,) * len(builders), (None,) * len(builders))
-    found = [first]
-    for state in found:
-        for builder in range(len(builders)):
-            after = plain_acted(builders, state, builder)
-            if after is not None and after not in found:
-                found.append(after)
-    return found
-
-
-def tried():
-    """Boards with builders, of one and two cells and larger."""
-    for seed, board in enumerate(list(tiny_boards())[::3]):
-        yield board, some_builders(board, seed)
-    for seed in range(150):
-        board = mixed_board(1 + seed % 5, 1 + seed // 2 % 5, seed, ("<>x", "xx>", ".<>x", "x")[seed % 4])
-        yield board, some_builders(board, seed + 300)
-    for seed, board in enumerate(five_by_five()):
-        yield board, some_builders(board, seed + 500)
 
 
 class Work(unittest.TestCase):

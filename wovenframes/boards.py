@@ -40,6 +40,11 @@ def is_cells(value):
     return is_table(value, SIGNS)
 
 
+def is_cells_like(board, value):
+    """Whether a value is the cells of a board with as many rows and columns."""
+    return is_cells(value) and (len(value), len(value[0])) == (board.rows, board.columns)
+
+
 def check_board(value):
     """Raise BadBoard if a value is no board."""
     if not isinstance(value, Board):

@@ -1,18 +1,13 @@
 """Work by several builders: their deeds, and the states of the work from deed to deed."""
 
-from wovenframes.boards import Board, check_board, is_cells, is_thread, with_cell
+from wovenframes.boards import Board, check_board, is_cells_like, is_thread, with_cell
 from wovenframes.errors import BadBuilder, BadBuilders, BadState
 from wovenframes.standing import can_stand
-from wovenframes.values import is_whole
+from wovenframes.values import is_cell, is_whole, put_at
 
 MOST_BUILDERS = 3
 MOST_DEEDS = 6
 FILLS = ("<", ">", "x")
-
-
-def is_spot(board, value):
-    """Whether a value is a pair of a row and a column of the board."""
-    return len(value) == 2 and is_whole(value[0], 0, board.rows - 1) and is_whole(value[1], 0, board.columns - 1)
 
 
 def is_deed(board, value):
@@ -21,9 +16,9 @@ def is_deed(board, value):
         return False
     word, rest = value[0], value[1:]
     if word == "fill":
-        return len(rest) == 3 and is_spot(board, rest[:2]) and rest[2] in FILLS
+        return len(rest) == 3 and is_cell(board.cells, rest[:2]) and rest[2] in FILLS
     if word == "cut":
-        return is_spot(board, rest)
+        return is_cell(board.cells, rest)
     if word == "stand":
         return len(rest) == 1 and is_thread(board, rest[0])
     return word == "leave" and not rest
@@ -60,9 +55,7 @@ def check_state(board, builders, value):
     if not isinstance(value, tuple) or len(value) != 3:
         raise BadState()
     cells, done, threads = value
-    if not is_cells(cells) or (len(cells), len(cells[0])) != (board.rows, board.columns):
-        raise BadState()
-    if not are_places(builders, done) or not are_stood_on(board, builders, threads):
+    if not is_cells_like(board, cells) or not are_places(builders, done) or not are_stood_on(board, builders, threads):
         raise BadState()
 
 
@@ -95,11 +88,6 @@ def is_ready(thread, deed):
     if deed[0] == "stand":
         return thread is None
     return deed[0] != "leave" or thread is not None
-
-
-def put_at(values, at, value):
-    """A tuple with another value in one place."""
-    return values[:at] + (value,) + values[at + 1:]
 
 
 def state_after(builders, state, builder):

@@ -4,10 +4,10 @@ from wovenframes.boards import Board, is_cells, with_cell
 from wovenframes.chains import distances
 from wovenframes.lots import holds, is_lot
 from wovenframes.pictures import (
-    cells_of, check_shown, first_wrong, free_board, free_cells, is_cell, seen, sign_at, threads_at, weaves, wrong_cells,
+    cells_of, check_shown, first_wrong, free_board, free_cells, seen, sign_at, threads_at, weaves, wrong_cells,
 )
 from wovenframes.readings import lifting, lifts_off
-from wovenframes.values import first_of
+from wovenframes.values import first_of, is_cell
 
 
 def touching(picture):

@@ -4,10 +4,10 @@ from wovenframes.holdweaves import bridges_of
 from wovenframes.loadcuts import bits_together, opened_by
 from wovenframes.lots import closed_lots, holds, is_lot
 from wovenframes.pictures import (
-    LETTERS, cells_of, check_shown, choices, is_cell, loose_board, sign_at, wrong_cells,
+    LETTERS, cells_of, check_shown, choices, loose_board, sign_at, wrong_cells,
 )
 from wovenframes.readings import lifts_off
-from wovenframes.values import is_ascending
+from wovenframes.values import is_ascending, is_cell
 
 
 def letter_cells(picture):

@@ -2,7 +2,7 @@
 
 from wovenframes.boards import SIGNS, Board, check_board, turned
 from wovenframes.errors import BadColours, BadPicture, NotShown, TooMany
-from wovenframes.values import first_of, is_table, is_whole, picks
+from wovenframes.values import first_of, is_table, picks
 
 LETTERS = ("a", "b", "c", "d", "e")
 PICTURE_SIGNS = ("a", "b", "c", "d", "e", ".", "x")
@@ -30,13 +30,6 @@ def check_shown(picture, colours):
 def cells_of(picture):
     """The ascending list of all cells of a picture."""
     return [(row, column) for row in range(len(picture)) for column in range(len(picture[0]))]
-
-
-def is_cell(picture, value):
-    """Whether a value is a cell of a picture."""
-    if not isinstance(value, tuple) or len(value) != 2:
-        return False
-    return is_whole(value[0], 0, len(picture) - 1) and is_whole(value[1], 0, len(picture[0]) - 1)
 
 
 def sign_at(picture, cell):

@@ -34,6 +34,11 @@ def first_of(values):
     return values[0] if values else None
 
 
+def put_at(values, at, value):
+    """A tuple with another value in one place."""
+    return values[:at] + (value,) + values[at + 1:]
+
+
 def is_table(value, signs):
     """Whether a value is a tuple of 1 to 5 strings, all of one length from 1 to 5, of some signs."""
     if not isinstance(value, tuple) or not 1 <= len(value) <= LONGEST_SIDE:
@@ -43,6 +48,13 @@ def is_table(value, signs):
     if not 1 <= len(value[0]) <= LONGEST_SIDE:
         return False
     return all([len(line) == len(value[0]) and all([sign in signs for sign in line]) for line in value])
+
+
+def is_cell(lines, value):
+    """Whether a value is a pair (row, column) of a cell of a table of some lines."""
+    if not isinstance(value, tuple) or len(value) != 2:
+        return False
+    return is_whole(value[0], 0, len(lines) - 1) and is_whole(value[1], 0, len(lines[0]) - 1)
 
 
 def picks(choices):
