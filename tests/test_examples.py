@@ -221,6 +221,129 @@ STANDING = '''
 [False, (0,), True, None]
 '''
 
+WORKORDERS = '''
+>>> from wovenframes.boards import Board
+>>> from wovenframes.workorders import ends, first_stuck, many_orders, order_to, state_behind
+>>> board, builders = Board((">",)), ((("cut", 0, 0), ("fill", 0, 0, "x")), (("stand", 1), ("leave",)))
+>>> [state_behind(board, builders, (0, 1, 0)), ends(board, builders), order_to(board, builders, ("x",)), many_orders(board, builders)]
+[(('x',), (2, 1), (None, 1)), [('x',)], (0, 0, 1, 1), 6]
+>>> [first_stuck(board, builders), first_stuck(board, ((("stand", 0),), (("stand", 1),)))]
+[None, (0,)]
+>>> state_behind(board, builders, (0, 0, 0))
+raises BadOrder(index=2)
+'''
+
+FIRMNESS = '''
+>>> from wovenframes.boards import Board
+>>> from wovenframes.firmness import firm_always, firm_order, first_loose
+>>> board, builders = Board(("xx", "x.")), ((("cut", 0, 0),), (("fill", 1, 1, "x"),))
+>>> [firm_always(board, builders), first_loose(board, builders), firm_order(board, builders)]
+[False, (0,), (1, 0)]
+'''
+
+MOMENTS = '''
+>>> from wovenframes.boards import Board
+>>> from wovenframes.moments import latest, moments
+>>> board, deeds = Board(("xx", "xx")), (("cut", 0, 0), ("fill", 0, 0, "x"))
+>>> [moments(board, deeds, ("cut", 1, 1)), latest(board, deeds, ("cut", 1, 1)), moments(board, deeds, ("cut", 0, 0)), latest(board, (), ("cut", 0, 0))]
+[[2], 2, [2], 0]
+'''
+
+STOPPED = '''
+>>> from wovenframes.boards import Board
+>>> from wovenframes.stopped import first_uncarried, stopped_boards, stopped_places, surely_done
+>>> board, builders = Board((">",)), ((("cut", 0, 0), ("fill", 0, 0, "x")), (("stand", 1), ("leave",)))
+>>> [stopped_boards(board, builders), stopped_places(board, builders, ("x",)), surely_done(board, builders, ("x",))]
+[[('.',), ('>',), ('x',)], [(2, 0), (2, 1), (2, 2)], (2, 0)]
+>>> [first_uncarried(board, builders, (0, 0), (1, -1)), first_uncarried(board, builders, (0, 0), (-1, 1)), first_uncarried(board, builders, (1,), (1, -1))]
+[1, 0, None]
+'''
+
+TRIALS = '''
+>>> from wovenframes.boards import Board
+>>> from wovenframes.trials import broken, comes_along, idle_cells, sight_of, told_apart
+>>> board = Board((">x", ".<"))
+>>> [broken(board, ((0, 1),)).cells, comes_along(board, ((0, 1),), 2), sight_of(board, (), 2), sight_of(board, ((0, 1),), 2)]
+[('>.', '.<'), (0, 2), '+-++', '+-+-']
+>>> [told_apart(board, (), ((0, 1),)), idle_cells(board), idle_cells(Board(("xx", "xx")))]
+[0, [], [(0, 0), (0, 1), (1, 0), (1, 1)]]
+>>> broken(board, ((1, 0),))
+raises BadBreak()
+'''
+
+LOSTLOGS = '''
+>>> from wovenframes.boards import Board
+>>> from wovenframes.lostlogs import alike_breaks, breaks_that_fit, does_fit, left_behind, sure_cells
+>>> board, log = Board((">x", ".<")), (("trial", 2, "+-+-"),)
+>>> [breaks_that_fit(board, log, 1), breaks_that_fit(board, log, 2), left_behind(board, log + (("mend", 0, 1),), 2)]
+[[((0, 1),)], [((0, 1),), ((0, 1), (1, 1))], [(), ((1, 1),)]]
+>>> [sure_cells(board, log, 2), does_fit(board, (), log), breaks_that_fit(board, (("trial", 2, "??+-"),), 1)]
+[(((0, 1),), ((0, 0),)), False, [((0, 0),), ((0, 1),)]]
+>>> alike_breaks(Board(("xx", "xx")), 1)
+[[(), ((0, 0),), ((0, 1),), ((1, 0),), ((1, 1),)]]
+>>> left_behind(board, (("mend", 1, 0),), 1)
+raises BadLog(index=0)
+'''
+
+PLANS = '''
+>>> from wovenframes.boards import Board
+>>> from wovenframes.plans import best_trial, fewest_looks, fewest_trials, plan, shows_plan
+>>> board = Board((">x", ".<"))
+>>> [fewest_trials(board, 1), shows_plan(board, 1, 2, plan(board, 1)), shows_plan(board, 1, 1, plan(board, 1)), plan(Board(("xx", "xx")), 1)]
+[2, True, False, ('end',)]
+>>> [best_trial(board, (), 1), fewest_looks(board, (), 1, 1), best_trial(board, (), 0)]
+[1, (0, 3), None]
+'''
+
+SURELY = '''
+>>> from wovenframes.boards import Board
+>>> from wovenframes.surely import may_carry, may_hold, surely_carried, surely_holds
+>>> board, log, knots = Board((">x", ".<")), (("trial", 2, "+-+-"),), Board(("xx", "xx"))
+>>> [surely_holds(knots, (), 1), surely_holds(knots, (), 2), may_hold(knots, (), 2), surely_carried(knots, (), 1, (1, -1, 0, 0))]
+[True, False, True, True]
+>>> [surely_carried(board, log, 1, (1, 0, -1, 0)), may_carry(board, log, 1, (1, -1, 0, 0))]
+[True, False]
+>>> may_hold(board, log, 0)
+raises NoBreak()
+'''
+
+SHEETS = r'''
+>>> from wovenframes.boards import Board
+>>> from wovenframes.sheets import read, write
+>>> write(Board(("><",)), (0, -3, 3), (1, 4)).split("\n")
+['row ><', 'load 0 -3 3', 'strengths 1 4']
+>>> [read("row ><\n load 0  -3 3\nstrengths 1 4")[1:], read("row .\nload 0 0\nstrengths")[0].cells]
+[((0, -3, 3), (1, 4)), ('.',)]
+>>> read("row ><\nload 0 1 1")
+raises InvalidText(line=2, word=4)
+'''
+
+DESKS = '''
+>>> from wovenframes.boards import Board
+>>> from wovenframes.desks import Desk
+>>> desk = Desk(Board(("><",)))
+>>> [desk.shift(2, 1, 3), desk.strengthen(0, 1, 4), desk.own_load, desk.own_strengths, desk.does_carry(), desk.verdict()]
+[None, None, (0, -3, 3), (1, 4), True, ('lot', (2,))]
+>>> [desk.flip(), desk.own_board.cells, desk.own_load, desk.own_strengths, desk.turn(), desk.own_load, len(desk)]
+[None, ('<', '>'), (-3, 3, 0), (4, 1), None, (3, -3, 0), 4]
+>>> [desk.undo(), desk.undo(), desk.own_board.cells, desk.redo(), desk.own_board.rows, len(desk)]
+[True, True, ('><',), True, 2, 3]
+>>> desk.shift(1, 0, 20)
+raises TooHeavy()
+'''
+
+DEEDS = '''
+>>> from wovenframes.boards import Board
+>>> from wovenframes.deeds import deeds_to, fewest_deeds, replayed
+>>> board, other = Board(("><",)), Board((">", "<"))
+>>> [fewest_deeds(board, other), replayed(board, deeds_to(board, other)).cells, fewest_deeds(board, Board(("><x",)))]
+[2, ('>', '<'), None]
+>>> [replayed(board, [("flip",), ("put", 1, 0, "x")]).cells, deeds_to(board, board)]
+[('<', 'x'), []]
+>>> replayed(board, [("put", 0, 1, "x"), ("put", 1, 0, "x")])
+raises BadDeeds(index=1)
+'''
+
 
 def is_statement(source):
     """Whether an example's line is to be run, and shows nothing."""
@@ -306,6 +429,39 @@ class Examples(unittest.TestCase):
 
     def test_standing(self):
         self.check(STANDING)
+
+    def test_workorders(self):
+        self.check(WORKORDERS)
+
+    def test_firmness(self):
+        self.check(FIRMNESS)
+
+    def test_moments(self):
+        self.check(MOMENTS)
+
+    def test_stopped(self):
+        self.check(STOPPED)
+
+    def test_trials(self):
+        self.check(TRIALS)
+
+    def test_lostlogs(self):
+        self.check(LOSTLOGS)
+
+    def test_plans(self):
+        self.check(PLANS)
+
+    def test_surely(self):
+        self.check(SURELY)
+
+    def test_sheets(self):
+        self.check(SHEETS)
+
+    def test_desks(self):
+        self.check(DESKS)
+
+    def test_deeds(self):
+        self.check(DEEDS)
 
 
 if __name__ == "__main__":

@@ -8,10 +8,12 @@ from plainloads import mixed_load, mixed_strengths
 from plainpictures import plain_seen
 
 from wovenframes import (
-    boards, builders, carrying, chains, drawings, dyes, holdweaves, joins, lattices, loadcuts, lots, mends, motions, orders,
-    pictures, prices, readings, standing, strengths,
+    boards, builders, carrying, chains, deeds, drawings, dyes, firmness, holdweaves, joins, lattices, loadcuts, lostlogs, lots,
+    mends, moments, motions, orders, pictures, plans, prices, readings, sheets, standing, stopped, strengths, surely, trials,
+    workorders,
 )
 from wovenframes.boards import Board
+from wovenframes.desks import Desk
 from wovenframes.errors import WovenError
 
 
@@ -26,6 +28,7 @@ PAIR = ("picture", "colours")
 SIZED_LOTS = ("rows", "columns", "lots")
 WITH_ITSELF = ("board", "shared")
 WORK = ("builders", "state")
+LOGGED = ("log", 1)
 LISTS = (
     (boards.steps, ()), (chains.reached, (0,)), (chains.reaching, (0,)), (lots.closed_lots, ()), (lots.parts, ()),
     (lots.layers, ()), (strengths.tight_lots, ("strengths", "load")),
@@ -34,7 +37,10 @@ LISTS = (
     (lattices.generators, ()), (lattices.made_by, ("threads",)), (lattices.idle_steps, ()),
     (boardless(pictures.free_cells), PAIR), (boardless(pictures.weaves), PAIR), (boardless(holdweaves.bridges), PAIR),
     (boardless(dyes.colours_for), ("picture",)), (joins.agreeing_lots, WITH_ITSELF), (drawings.lots_with, ((0,),)),
-    (drawings.pieces, ()),
+    (drawings.pieces, ()), (workorders.ends, ("builders",)), (moments.moments, ("changes", ("cut", 0, 0))),
+    (stopped.stopped_boards, ("builders",)), (stopped.stopped_places, ("builders", "cells")), (trials.idle_cells, ()),
+    (lostlogs.breaks_that_fit, LOGGED), (lostlogs.left_behind, LOGGED), (lostlogs.alike_breaks, (1,)),
+    (deeds.deeds_to, ("turned",)),
 )
 VALUES = (
     (boards.flipped, ()), (boards.turned, ()), (boards.with_cell, (0, 0, "x")), (chains.leads, (0, 1)),
@@ -60,6 +66,17 @@ VALUES = (
     (drawings.drawn_to, ("threads",)), (drawings.bare, ()), (drawings.exchanged, ("threads",)),
     (drawings.alike, ("board",)), (builders.begun, ("builders",)), (builders.movers, WORK), (builders.acted, (*WORK, 0)),
     (standing.can_stand, ("threads",)), (standing.dividing_lot, ("threads",)),
+    (workorders.state_behind, ("builders", ())), (workorders.order_to, ("builders", "cells")),
+    (workorders.many_orders, ("builders",)), (workorders.first_stuck, ("builders",)), (firmness.firm_always, ("builders",)),
+    (firmness.first_loose, ("builders",)), (firmness.firm_order, ("builders",)),
+    (moments.latest, ("changes", ("cut", 0, 0))), (stopped.surely_done, ("builders", "cells")),
+    (stopped.first_uncarried, ("builders", (), "load")), (trials.broken, ((),)), (trials.comes_along, ((), 1)),
+    (trials.sight_of, ((), 1)), (trials.told_apart, ((), ())), (lostlogs.does_fit, ((), "log")),
+    (lostlogs.sure_cells, LOGGED), (plans.plan, (1,)), (plans.fewest_trials, (1,)),
+    (plans.shows_plan, (1, 9, ("end",))), (plans.best_trial, LOGGED), (plans.fewest_looks, (*LOGGED, 1)),
+    (surely.surely_holds, LOGGED), (surely.may_hold, LOGGED), (surely.surely_carried, (*LOGGED, "load")),
+    (surely.may_carry, (*LOGGED, "load")), (sheets.write, ("load", "strengths")), (deeds.replayed, ("replays",)),
+    (deeds.fewest_deeds, ("turned",)),
 )
 
 
@@ -78,6 +95,11 @@ def told_for(board, rest):
         "shared": tuple((thread, thread) for thread in range(len(board))),
         "builders": ((("stand", 0), ("cut", 0, 0)), (("leave",),)),
         "state": (board.cells, (1, 0), (0, None)),
+        "cells": board.cells,
+        "changes": (("fill", 0, 0, "x"), ("cut", 0, 0)),
+        "log": (("trial", 0, "?" * len(board)),),
+        "turned": boards.turned(boards.flipped(board)),
+        "replays": [("flip",), ("put", 0, 0, "x"), ("turn",)],
         "load": mixed_load(board, 3, 3),
         "light": (1, -1) + (0,) * (len(board) - 2),
         "strengths": mixed_strengths(board, 4, 9, 5),
@@ -112,7 +134,7 @@ class Unchanged(unittest.TestCase):
         for board in [Board((">x", ".<")), *five_by_five()]:
             for call, rest in calls_for(board, VALUES):
                 told = call(board, *rest)
-                self.assertTrue(isinstance(told, (int, tuple, Board)) or told is None)
+                self.assertTrue(isinstance(told, (int, str, tuple, Board)) or told is None)
                 if isinstance(told, tuple):
                     # A tuple of tuples all the way down has a place among the keys of a dict.
                     self.assertEqual({told: 1}, {told: 1})
@@ -167,6 +189,36 @@ class Unchanged(unittest.TestCase):
             lattices.fewest_steps(1, 1, wrong)
         self.assertEqual(wrong, [(), [0], (0, 1)])
 
+    def test_deeds_in_a_list_stay_as_they_are(self):
+        board, some = Board((">x", ".<")), [("flip",), ("put", 0, 0, "x")]
+        told = deeds.replayed(board, some)
+        self.assertEqual(some, [("flip",), ("put", 0, 0, "x")])
+        some.clear()
+        self.assertEqual((told.cells, board.cells), (("x.", "x>"), (">x", ".<")))
+        wrong = [("turn",), ["flip"]]
+        with self.assertRaises(WovenError):
+            deeds.replayed(board, wrong)
+        self.assertEqual(wrong, [("turn",), ["flip"]])
+
+    def test_inner_lists_changed_by_the_caller(self):
+        board = Board(("xx", "x>"))
+        told = lostlogs.alike_breaks(board, 2)
+        kept = deepcopy(told)
+        for group in told:
+            group.reverse()
+            group.append(None)
+        self.assertEqual(lostlogs.alike_breaks(board, 2), kept)
+
+    def test_what_a_desk_tells_is_its_own(self):
+        board = Board((">x", ".<"))
+        desk = Desk(board)
+        told = (desk.own_board, desk.own_load, desk.own_strengths, desk.verdict())
+        desk.shift(0, 1, 3)
+        desk.put(0, 0, "x")
+        self.assertEqual(told, (board, (0,) * 4, (1,) * 4, readings.verdict(board)))
+        self.assertEqual((desk.own_load, desk.own_load), ((3, -3, 0, 0),) * 2)
+        self.assertEqual(board.cells, (">x", ".<"))
+
     def test_values_that_are_only_told_of_stay_as_they_are(self):
         board, none = Board(("x",)), (0, 0)
         for call, rest in ((chains.shows_chain, (0, 1)), (readings.is_motion, ()), (readings.shows_ring, ()),
@@ -176,7 +228,7 @@ class Unchanged(unittest.TestCase):
                            (boardless(holdweaves.shows_why), (("a",), ("a", "a"))),
                            (boardless(mends.is_mend), (("a",), ("a", "a"))),
                            (boardless(mends.shows_mend), (("a",), ("a", "a"))),
-                           (joins.shows_split, (Board((".",)), ((0, 0), (1, 1)), (0, 0)))):
+                           (joins.shows_split, (Board((".",)), ((0, 0), (1, 1)), (0, 0))), (plans.shows_plan, (1, 9))):
             for value, same in (([0, 1, 0], [0, 1, 0]), ({"lot": [0]}, {"lot": [0]}), (("lot", [0]), ("lot", [0])),
                                 ([0, 0], [0, 0]), (((0, 0), [0, 0]), ((0, 0), [0, 0])), (((), [()]), ((), [()]))):
                 self.assertIs(call(board, *rest, value), False)
@@ -193,7 +245,10 @@ class Unchanged(unittest.TestCase):
                            (boardless(pictures.weaves), (("a",), lot)), (dyes.told_colours, (cells,)),
                            (boardless(mends.first_mend), (("a",), lot)), (joins.joined, (board, lot)),
                            (drawings.drawn, (lot,)), (drawings.exchanged, (lot,)), (builders.begun, (lot,)),
-                           (standing.can_stand, (lot,))):
+                           (standing.can_stand, (lot,)), (workorders.state_behind, (lot, lot)), (moments.moments, (lot, lot)),
+                           (stopped.stopped_places, (((),), cells)), (trials.broken, (lot,)), (lostlogs.does_fit, ((), lot)),
+                           (plans.best_trial, (lot, 1)), (surely.surely_carried, ((), 1, lot)), (sheets.write, (lot, lot)),
+                           (deeds.replayed, (lot,))):
             with self.assertRaises(WovenError):
                 call(board, *rest)
             self.assertEqual((board.cells, lot), ((">x", ".<"), [1, 0]))

@@ -4,10 +4,12 @@ import unittest
 from itertools import combinations
 
 from wovenframes import (
-    boards, builders, carrying, chains, drawings, dyes, errors, holdweaves, joins, lattices, loadcuts, lots, mends, motions,
-    orders, pictures, prices, readings, standing, strengths,
+    boards, builders, carrying, chains, deeds, drawings, dyes, errors, firmness, holdweaves, joins, lattices, loadcuts,
+    lostlogs, lots, mends, moments, motions, orders, pictures, plans, prices, readings, sheets, standing, stopped, strengths,
+    surely, trials, workorders,
 )
 from wovenframes.boards import Board
+from wovenframes.desks import Desk
 
 BOARD = Board((">x<", ".<x"))
 
@@ -109,8 +111,74 @@ BAD_STATES = (
     ((">x<", ".<x"), (0, 0), ("0", None)), ((">x<", ".<x"), (0, 0), (None, None), ()), ((">x<", ".<x"), None, None),
 )
 BAD_BUILDER = (*PLAIN, True, False, -1, 2, 3, 10 ** 30)
+BAD_ORDERS = (
+    *(value for value in PLAIN if value not in ((), (0,))), True, False, 1, [0], (1,), (2,), (-1,), (True,), (False,), (None,),
+    ("0",), ([0],), (0, 0), (0, 1), (0, None), (0,) * 19, (BOARD,), (10 ** 30,),
+)
+BAD_CELLS = (
+    *PLAIN, True, False, 1, ">x<.<x", [">x<", ".<x"], (">x<",), (">x<", ".<x", "..."), (">x", ".<"), (">x<.", ".<x."),
+    (">x<", ".<"), (">x<", ".<a"), (">x<", None), (">x<", [".<x"]), ("", ""), (BOARD, BOARD), ((">x<", ".<x"),),
+)
+CUT = ("cut", 0, 0)
+NO_CHANGES = (
+    *PLAIN, True, False, 1, "cut", ["cut", 0, 0], ("cut",), ("cut", 0), ("cut", 2, 0), ("cut", 0, 3), ("cut", True, 0),
+    ("cut", 0, 0, 0), ("fill", 0, 0), ("fill", 0, 0, "."), ("fill", 0, 3, "x"), ("fill", 0, 0, ["x"]), ("stand", 0), LEAVE, (CUT,),
+    ("Cut", 0, 0), ("cut", None, 0), ("cut", (0, 0)), ("put", 0, 0, "x"), ("flip",),
+)
+BAD_CHANGES = (
+    *(value for value in PLAIN if value != ()), True, False, 1, [CUT], (CUT,) * 7, (CUT, None), (LEAVE,), (("stand", 0),), (["cut", 0, 0],),
+    (CUT, ("cut", 2, 0)), CUT, ((CUT,),),
+)
+BAD_BREAKS = (
+    *(value for value in PLAIN if value != ()), True, False, 1, [(0, 0)], ((1, 0),), ((0, 0), (0, 0)), ((0, 1), (0, 0)), ((2, 0),),
+    ((0, 3),), ((0, True),), ((False, 0),), ([0, 0],), ((0, 0, 0),), ((0,),), ((0, "0"),), (None,), ((0, 0), None), (((0, 0),),),
+    ((-1, 0),), ((0, -1),), ((10 ** 30, 0),), (BOARD,), ((0, BOARD),), ("00",),
+)
+TRIAL = ("trial", 0, "+-?+-")
+BAD_LOGS = (
+    *(value for value in PLAIN if value != ()), True, False, 1, [TRIAL], (TRIAL,) * 13, TRIAL, (TRIAL, None), (["trial", 0, "?????"],),
+    (("trial", 5, "?????"),), (("trial", True, "?????"),), (("trial", 0, "????"),), (("trial", 0, "????x"),), (("trial", 0, None),),
+    (("mend", 1, 0),), (("mend", 0, 3),), (("mend", 0, True),), (("mend", 0),), (("mend", 0, 0, 0),), (("cut", 0, 0),), (BOARD,),
+)
+BAD_MOSTS = (*PLAIN, True, False, -1, 3, 4, 10 ** 30)
+BAD_DEPTHS = (*PLAIN, True, False, -1, 11, 12, 10 ** 30)
+PUT = ("put", 0, 0, "x")
+BAD_REPLAYS = (
+    *(value for value in PLAIN if value not in ([], ())), True, False, 1, "flip", [PUT] * 31, ["flip"], [["flip"]], PUT, [PUT, None],
+    (("put", 2, 0, "x"),), (("put", 0, 3, "x"),), (("put", 0, 0, "y"),), (("put", True, 0, "x"),), (("flip", 0),), (CUT,), (LEAVE,),
+    [("flip",), ("put", 0, 2, "x")],
+)
+
+# The methods of a desk as calls; its own properties are no calls, and its other methods have no arguments.
+
+
+def put_on_desk(row, column, sign):
+    return Desk(BOARD).put(row=row, column=column, sign=sign)
+
+
+def strengthen_on_desk(row, column, number):
+    return Desk(BOARD).strengthen(row=row, column=column, number=number)
+
+
+def shift_on_desk(one, other, number):
+    return Desk(BOARD).shift(one=one, other=other, number=number)
+
 
 BAD = {
+    "order": (BAD_ORDERS, errors.BadOrder),
+    "cells": (BAD_CELLS, errors.BadCells),
+    "changes": (BAD_CHANGES, errors.BadDeeds),
+    "change": (NO_CHANGES, errors.BadDeed),
+    "lost": (BAD_BREAKS, errors.BadBreak),
+    "one_break": (BAD_BREAKS, errors.BadBreak),
+    "other_break": (BAD_BREAKS, errors.BadBreak),
+    "thread": (BAD_THREADS, errors.BadThread),
+    "log": (BAD_LOGS, errors.BadLog),
+    "most": (BAD_MOSTS, errors.BadMost),
+    "depth": (BAD_DEPTHS, errors.BadMany),
+    "replays": (BAD_REPLAYS, errors.BadDeeds),
+    "desk_number": ((*PLAIN, True, False, -1, 10, 11, 10 ** 30), errors.BadNumber),
+    "desk_shift": ((*PLAIN, True, False, -21, 21, 10 ** 30), errors.BadNumber),
     "one_board": (BAD_BOARDS, errors.BadBoard),
     "other_board": (BAD_BOARDS, errors.BadBoard),
     "shared": (tuple(value for value in BAD_SHARED if value != ()), errors.BadShared),
@@ -150,13 +218,18 @@ GOOD = {"board": BOARD, "one": 0, "other": 4, "row": 1, "column": 2, "sign": "."
         "lift_order": ((0, 1, 3, 4), (2,)), "picture": ("ab.", "cxa"), "colours": ("a", "b", "b", "a", "c"),
         "one_board": BOARD, "other_board": BOARD, "shared": tuple((thread, thread) for thread in range(5)),
         "thread_order": (1, 0, 2, 4, 3), "many": 2, "builders": ((("cut", 1, 2),), (LEAVE,)),
-        "state": ((">x<", ".<x"), (0, 1), (4, None)), "builder": 1, "threads": (0, 3)}
+        "state": ((">x<", ".<x"), (0, 1), (4, None)), "builder": 1, "threads": (0, 3), "order": (0,),
+        "cells": (">x<", ".<."), "changes": (CUT, ("fill", 0, 0, "x")), "change": CUT, "lost": ((0, 0), (1, 2)), "one_break": (),
+        "other_break": ((0, 1),), "thread": 4, "log": (TRIAL, ("mend", 0, 0)), "most": 2, "depth": 10, "replays": [PUT, ("turn",)],
+        "desk_number": 9, "desk_shift": -20}
 # A table's name for an argument whose bounds are others here than elsewhere, and its name in the interface.
 OWN_NAMES = {
     "far_angle": "angle", "lift_order": "order", "thread_order": "order", "one_board": "one", "other_board": "other",
+    "changes": "deeds", "change": "deed", "one_break": "one", "other_break": "other", "depth": "many", "replays": "deeds",
+    "desk_number": "number", "desk_shift": "number",
 }
 # Values that are wrong for most arguments, but not for these.
-NOT_WRONG = (("least", -2), ("lots", ((0,),)))
+NOT_WRONG = (("least", -2), ("lots", ((0,),)), ("desk_shift", -2))
 
 CALLS = (
     (boards.steps, ("board",)),
@@ -261,6 +334,47 @@ CALLS = (
     (builders.acted, ("board", "builders", "state", "builder")),
     (standing.can_stand, ("board", "threads")),
     (standing.dividing_lot, ("board", "threads")),
+    (workorders.state_behind, ("board", "builders", "order")),
+    (workorders.ends, ("board", "builders")),
+    (workorders.order_to, ("board", "builders", "cells")),
+    (workorders.many_orders, ("board", "builders")),
+    (workorders.first_stuck, ("board", "builders")),
+    (firmness.firm_always, ("board", "builders")),
+    (firmness.first_loose, ("board", "builders")),
+    (firmness.firm_order, ("board", "builders")),
+    (moments.moments, ("board", "changes", "change")),
+    (moments.latest, ("board", "changes", "change")),
+    (stopped.stopped_boards, ("board", "builders")),
+    (stopped.stopped_places, ("board", "builders", "cells")),
+    (stopped.surely_done, ("board", "builders", "cells")),
+    (stopped.first_uncarried, ("board", "builders", "order", "load")),
+    (trials.broken, ("board", "lost")),
+    (trials.comes_along, ("board", "lost", "thread")),
+    (trials.sight_of, ("board", "lost", "thread")),
+    (trials.told_apart, ("board", "one_break", "other_break")),
+    (trials.idle_cells, ("board",)),
+    (lostlogs.does_fit, ("board", "lost", "log")),
+    (lostlogs.breaks_that_fit, ("board", "log", "most")),
+    (lostlogs.left_behind, ("board", "log", "most")),
+    (lostlogs.sure_cells, ("board", "log", "most")),
+    (lostlogs.alike_breaks, ("board", "most")),
+    (plans.plan, ("board", "most")),
+    (plans.fewest_trials, ("board", "most")),
+    (plans.shows_plan, ("board", "most", "depth", "value")),
+    (plans.best_trial, ("board", "log", "most")),
+    (plans.fewest_looks, ("board", "log", "most", "thread")),
+    (surely.surely_holds, ("board", "log", "most")),
+    (surely.may_hold, ("board", "log", "most")),
+    (surely.surely_carried, ("board", "log", "most", "load")),
+    (surely.may_carry, ("board", "log", "most", "load")),
+    (sheets.write, ("board", "load", "strengths")),
+    (deeds.replayed, ("board", "replays")),
+    (deeds.deeds_to, ("board", "other_board")),
+    (deeds.fewest_deeds, ("board", "other_board")),
+    (Desk, ("board",)),
+    (put_on_desk, ("row", "column", "sign")),
+    (strengthen_on_desk, ("row", "column", "desk_number")),
+    (shift_on_desk, ("one", "other", "desk_shift")),
 )
 
 
@@ -277,7 +391,9 @@ class WrongInputs(unittest.TestCase):
     def test_the_calls_without_a_wrong_argument(self):
         for call, names in CALLS:
             with self.subTest(call=call.__name__):
-                wrong = (errors.NotClosed, errors.NotLifting, errors.TooMany, errors.NotShown, errors.BadJoin)
+                wrong = (
+                    errors.NotClosed, errors.NotLifting, errors.TooMany, errors.NotShown, errors.BadJoin, errors.NoBreak,
+                )
                 self.assertIn(outcome(call, {name: GOOD[name] for name in names}), (None, *wrong))
 
     def test_one_wrong_argument(self):
@@ -300,7 +416,8 @@ class WrongInputs(unittest.TestCase):
                 "picture": ("a" * board.columns,) * board.rows, "colours": ("a",) * many,
                 "one_board": board, "other_board": board, "shared": tuple((thread, thread) for thread in range(many)),
                 "thread_order": tuple(range(many)), "many": 1, "builders": ((LEAVE,),),
-                "state": (board.cells, (0,), (None,)), "builder": 0, "threads": (),
+                "state": (board.cells, (0,), (None,)), "builder": 0, "threads": (), "order": (), "cells": board.cells,
+                "changes": (), "lost": (), "other_break": (), "thread": 1, "log": (), "most": 1, "replays": [],
             }
             for call, names in CALLS:
                 for name in names:
